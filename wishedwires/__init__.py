@@ -1,0 +1,1 @@
+"""Wished wires: a drawn circuit held against a wished one."""
