@@ -44,6 +44,7 @@ class PinKindTest(Case):
     def test_texts(self):
         self.assertEqual(PinKind("one", "m").text, "pins one m")
         self.assertEqual(PinKind("k", *SIX, swaps=(("f", "d"), ("c", "e", "a"))).text, "pins k a b c d e f : a c e , d f")
+        self.assertEqual(PinKind("k", "a", "b", "c", "d", swaps=(("c", "b"), ("d", "a"))).text, "pins k a b c d : a d , b c")
         self.assertEqual(PinKind("k", "z", "y", "x", swaps=(("x", "z"),)).text, "pins k z y x : z x")
 
     def test_wrong_pins(self):

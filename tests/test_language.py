@@ -181,7 +181,7 @@ class LanguageTest(unittest.TestCase):
             top = {node.name for node in tree.body if isinstance(node, (ast.FunctionDef, ast.ClassDef))}
             brought = {alias.name for node in tree.body if isinstance(node, ast.ImportFrom) for alias in node.names}
             classes = {node.name for node in tree.body if isinstance(node, ast.ClassDef)}
-            self.assertEqual((bound | top) & (set(dir(builtins)) | UNNAMED), set(), path)
+            self.assertEqual((bound | top) & (set(dir(builtins)) - {"_"} | UNNAMED), set(), path)
             self.assertEqual(bound & (brought | classes), set(), path)
             read = {node.id for node in ast.walk(tree) if isinstance(node, ast.Name)}
             self.assertEqual(read - bound - top - brought - BUILTINS, set(), path)

@@ -34,3 +34,15 @@ def is_name(value):
 def are_different_words(values):
     """Whether all members of a list or tuple are words, none of them twice."""
     return all([is_word(value) for value in values]) and len(set(values)) == len(values)
+
+
+def are_names(values, many):
+    """Whether a value is a list or tuple of this many names."""
+    if not isinstance(values, (list, tuple)) or len(values) != many:
+        return False
+    return all([is_name(value) for value in values])
+
+
+def is_net_map(nets):
+    """Whether a value is a dict to names."""
+    return isinstance(nets, dict) and all([is_name(net) for net in nets.values()])

@@ -111,16 +111,12 @@ def value_of(value):
         raise NotPositive(value)
     if value <= 0:
         raise NotPositive(value)
-    return _as_ratio(value) + 0
+    return Ratio(1) * value
 
 
 def _as_ratio(value):
     """A ratio or an integer as a ratio; InvalidNumber for any other value."""
-    if isinstance(value, Ratio):
-        return value
-    if not is_whole(value):
-        raise InvalidNumber(value)
-    return Ratio(value)
+    return value if isinstance(value, Ratio) else Ratio(value)
 
 
 def _is_number(text):

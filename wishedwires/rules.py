@@ -8,7 +8,7 @@ class ValueRule:
     """A rule of joining: "sum", or "inverse" for the inverse of the sum of the inverses."""
 
     def __init__(self, word):
-        if not isinstance(word, str) or word not in ("sum", "inverse"):
+        if word not in ("sum", "inverse"):
             raise InvalidKind(word)
         self.word = word
 

@@ -1,0 +1,151 @@
+"""Expressions: what lies between two nets."""
+
+from wishedwires.checks import are_names, is_net_map, is_whole
+from wishedwires.errors import InvalidForm, InvalidKind, InvalidNumber, InvalidPins
+from wishedwires.kinds import JoiningKind, PathKind
+from wishedwires.ratios import value_of
+
+
+class Expression:
+    """The base of leaves, rows and bundles; what is said here of members is said of the latter two.
+
+    A shape ends where its first bracket is closed, so no shape is the beginning of another one. As a key begins with
+    the shape, members in ascending order are ascending by their shapes, too.
+    """
+
+    WAY = ""
+    BRACKETS = ("", "")
+
+    def __init__(self, members):
+        opening, closing = self.BRACKETS
+        self.members = members
+        self.shape = opening + "".join([member.shape for member in members]) + closing
+        self.details = ",".join([member.details for member in members])
+        self.key = f"{self.shape} {self.details}"
+        self.control_nets = tuple([net for member in members for net in member.control_nets])
+        self.worths = tuple([worth for member in members for worth in member.worths])
+
+    def leaves(self):
+        """The leaves, those of each member in order."""
+        for member in self.members:
+            yield from member.leaves()
+
+    def mapped(self, nets):
+        """The expression made anew with control nets replaced by a dict, which the leaves check."""
+        return _composed(self.WAY, [member.mapped(nets) for member in self.members])
+
+    def __neg__(self):
+        return _composed(self.WAY, [-member for member in self.members])
+
+    def __and__(self, other):
+        return _composed(Row.WAY, [self, _as_expression(other)])
+
+    def __or__(self, other):
+        return _composed(Bundle.WAY, [self, _as_expression(other)])
+
+    def __len__(self):
+        return len(self.worths)
+
+    def __eq__(self, other):
+        return isinstance(other, Expression) and self.key == other.key
+
+    def __lt__(self, other):
+        return self.key < _as_expression(other).key
+
+    def __le__(self, other):
+        return self.key <= _as_expression(other).key
+
+
+class Leaf(Expression):
+    """A part of a path kind; its turn is 1 along, -1 against, 0 if the kind is not directed."""
+
+    def __init__(self, kind, value, *controls, turn=1):
+        if not isinstance(kind, PathKind):
+            raise InvalidKind(kind)
+        worth = value_of(value)
+        if not are_names(controls, len(kind.controls)):
+            raise InvalidPins(controls)
+        if not is_whole(turn) or turn not in (1, -1):
+            raise InvalidNumber(turn)
+        self.kind = kind
+        self.value = worth
+        self.controls = controls
+        self.turn = turn if kind.DIRECTED else 0
+        self.shape = f"<{kind.text} {self.turn}>"
+        self.details = " ".join([str(worth), *controls])
+        self.key = f"{self.shape} {self.details}"
+        self.control_nets = controls
+        self.worths = (worth,)
+
+    def leaves(self):
+        """The leaf itself."""
+        yield self
+
+    def mapped(self, nets):
+        """The leaf with control nets replaced by a dict."""
+        if not is_net_map(nets):
+            raise InvalidPins(nets)
+        controls = [nets.get(net, net) for net in self.controls]
+        turn = -1 if self.turn < 0 else 1
+        return Leaf(self.kind, self.value, *controls, turn=turn)
+
+    def __neg__(self):
+        turn = 1 if self.turn < 0 else -1
+        return Leaf(self.kind, self.value, *self.controls, turn=turn)
+
+
+class Row(Expression):
+    """Two or more expressions one behind the other."""
+
+    WAY = "row"
+    BRACKETS = ("(", ")")
+
+
+class Bundle(Expression):
+    """Two or more expressions side by side."""
+
+    WAY = "side"
+    BRACKETS = ("[", "]")
+
+
+def _as_expression(value):
+    if not isinstance(value, Expression):
+        raise InvalidForm(value)
+    return value
+
+
+def _composed(way, pieces):
+    """The expression of pieces in a row or side by side: opened, joined, and in ascending order."""
+    members = [member for piece in pieces for member in _opened(way, piece)]
+    bonds = [_bond(way, member) for member in members]
+    apart = [member for member, bond in zip(members, bonds) if not bond]
+    groups = [[member for member, other in zip(members, bonds) if other == bond]
+              for bond in sorted(set([bond for bond in bonds if bond]))]
+    left = apart + [_one_leaf(way, group) for group in groups]
+    if len(left) == 1:
+        return left[0]
+    order = sorted(set([(member.key, index) for index, member in enumerate(left)]))
+    ordered = tuple([left[index] for _, index in order])
+    return Row(ordered) if way == Row.WAY else Bundle(ordered)
+
+
+def _opened(way, piece):
+    """The members of a piece that is itself of this way, otherwise the piece alone."""
+    return list(piece.members) if piece.WAY == way else [piece]
+
+
+def _bond(way, member):
+    """What leaves that are joined have in common; an empty text for members that are never joined."""
+    if not isinstance(member, Leaf) or not isinstance(member.kind, JoiningKind):
+        return ""
+    return " ".join([member.shape, *member.controls]) if way in member.kind.rules() else ""
+
+
+def _one_leaf(way, leaves):
+    """One leaf for some that agree in kind, control nets and turn."""
+    first = leaves[0]
+    rule = first.kind.rules()[way]
+    values = [leaf.value for leaf in leaves]
+    value = rule.all_of(*values)
+    turn = -1 if first.turn < 0 else 1
+    return Leaf(first.kind, value, *first.controls, turn=turn)
