@@ -219,7 +219,7 @@ class PoolTest(Case):
             self.assertEqual(found.setdefault(expression.shape, kinds), kinds)
 
     def test_order(self):
-        for (one, _), (other, _) in product(self.pool[::9], self.pool[::8]):
+        for (one, _), (other, _) in product(self.pool[::31], self.pool[::24]):
             self.assertEqual([one < other, one <= other, one > other, one >= other],
                              [one.key < other.key, one.key <= other.key, one.key > other.key, one.key >= other.key])
             self.assertEqual(one == other, one.key == other.key)
@@ -231,7 +231,7 @@ class PoolTest(Case):
             self.assertEqual(type(turned), type(expression))
             turns = sorted((leaf.kind.text, str(leaf.value), leaf.controls, -leaf.turn) for leaf in expression.leaves())
             self.assertEqual(sorted((leaf.kind.text, str(leaf.value), leaf.controls, leaf.turn) for leaf in turned.leaves()), turns)
-        for (one, _), (other, _) in product(self.pool[::9], self.pool[::8]):
+        for (one, _), (other, _) in product(self.pool[::31], self.pool[::24]):
             self.assertEqual([-(one & other), -(one | other)], [-one & -other, -one | -other])
 
     def test_mapped(self):

@@ -136,6 +136,11 @@ def _check_kinds(parts):
         kinds[kind.name] = kind
 
 
+def _parts_by_names(circuit):
+    """The parts that are kept, by names; a list, as an operator goes over no generator."""
+    return [circuit[name] for name in circuit.part_names()]
+
+
 def _nets_of(circuit, names):
     """The nets at the pins of some parts."""
     return [net for name in names for net in circuit[name].nets]
@@ -151,7 +156,7 @@ def _joints(one, other):
     if any([places[net] != place for net, place in joints]):
         raise InvalidCircuit(other)
     _check_names_apart(one, other, places)
-    _check_kinds([part for circuit in (one, other) for _, part in circuit.parts()])
+    _check_kinds([part for circuit in (one, other) for part in _parts_by_names(circuit)])
     return places
 
 
@@ -174,7 +179,7 @@ def _joined_ports(one, other, places):
 
 
 def _moved_parts(circuit, places):
-    return {name: part.moved(places) for name, part in circuit.parts()}
+    return {name: circuit[name].moved(places) for name in circuit.part_names()}
 
 
 def _check_part_names(circuit, names):

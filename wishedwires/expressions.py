@@ -68,7 +68,6 @@ class Leaf(Expression):
         if not is_whole(turn) or turn not in (1, -1):
             raise InvalidNumber(turn)
         self.kind = kind
-        self.value = worth
         self.controls = controls
         self.turn = turn if kind.DIRECTED else 0
         self.shape = f"<{kind.text} {self.turn}>"
@@ -76,6 +75,11 @@ class Leaf(Expression):
         self.key = f"{self.shape} {self.details}"
         self.control_nets = controls
         self.worths = (worth,)
+
+    @property
+    def value(self):
+        """The value, a ratio; no attribute, as a part's value is a property that can be set."""
+        return self.worths[0]
 
     def leaves(self):
         """The leaf itself."""
