@@ -1,6 +1,12 @@
 """What the tests share."""
 
 import unittest
+from itertools import permutations
+
+from wishedwires.entries import Item
+from wishedwires.expressions import Leaf
+from wishedwires.forms import Form
+from wishedwires.kinds import DirectedKind, PathKind, PinKind
 
 # Values of many kinds that are no integers, texts or objects of the package.
 ODD = (None, True, False, 1.5, b"a", [], (), {}, ["a"], ("a",), {"a": "b"}, object())
@@ -37,3 +43,84 @@ def told(circuit):
     """All that can be told of a circuit."""
     parts = [(name, id(part), part.kind.text, str(part.value), part.nets) for name, part in circuit.parts()]
     return list(circuit.ports.items()), parts
+
+
+TAP = PinKind("tap", "m")
+TWO = PinKind("two", "m", "n", swaps=(("m", "n"),))
+AMP = PinKind("amp", "p", "q", "o", swaps=(("p", "q"),))
+WIRE = PathKind("wire")
+GATE = PathKind("gate", "g")
+ARROW = DirectedKind("arrow")
+
+
+def single(kind, nets, name, value=1):
+    """A single; nets and names are told as texts of words."""
+    return Item.single(kind, value, nets.split(), name.split())
+
+
+def branch(expression, nets, name):
+    return Item.branch(expression, *nets.split(), name.split())
+
+
+def wires(nets, name="w"):
+    """One branch of a wire for each pair of nets that are told as "xy"."""
+    return [branch(Leaf(WIRE, 1), " ".join(pair), f"{name}{at:02d}") for at, pair in enumerate(nets.split())]
+
+
+def ring(nets, name="w"):
+    """A ring of equal wires on the nets of a text, one letter each."""
+    return wires(" ".join(one + other for one, other in zip(nets, nets[1:] + nets[0])), name)
+
+
+EXPRESSIONS = (Leaf(WIRE, 1), Leaf(WIRE, 2), Leaf(ARROW, 1), Leaf(GATE, 1, "x"), Leaf(GATE, 1, "y"),
+               Leaf(ARROW, 1) & Leaf(GATE, 1, "x"), (Leaf(GATE, 1, "x") | Leaf(GATE, 1, "y")) & Leaf(ARROW, 1),
+               Leaf(ARROW, 1) | -Leaf(ARROW, 1))
+
+
+def random_form(chance, nets="vwxyz", most=4):
+    """A form of at most so many items on some of the nets, and at most two ports."""
+    ports = {name: chance.choice(nets) for name in "pq" if chance.random() < 0.3}
+    return Form(ports, [random_item(chance, nets, f"t{at}") for at in range(chance.randint(0, most))])
+
+
+def random_item(chance, nets, name):
+    if chance.random() < 0.5:
+        kind = chance.choice((TAP, TWO, AMP))
+        return Item.single(kind, chance.choice((1, 1, 2)), [chance.choice(nets) for _ in kind.pins], [name])
+    expression = chance.choice(EXPRESSIONS).mapped({"x": chance.choice(nets), "y": chance.choice(nets)})
+    return Item.branch(expression, chance.choice(nets), chance.choice(nets), [name])
+
+
+def renamed(chance, form):
+    """An alike form, with nets and names mixed and the items in another order."""
+    nets = form.all_nets()
+    places = dict(zip(nets, chance.sample(nets, len(nets))))
+    ids = [item.id for item in form.entries]
+    names = dict(zip(ids, chance.sample(ids, len(ids))))
+    items = [of_names(item.mapped(places), [names[item.id]]) for item in form.entries]
+    return Form({name: places[net] for name, net in form.ports.items()}, chance.sample(items, len(items)))
+
+
+def of_names(item, names):
+    """The same item with other names."""
+    if item.is_branch:
+        return Item.branch(item.expression, *item.ends, names)
+    return Item.single(item.kind, item.worths[0], item.slots, names)
+
+
+def all_matchings(one, other):
+    """All pairs of dicts of nets and ids that make a matching, in their order: a plain trial of all maps."""
+    mine, theirs = one.all_nets(), other.all_nets()
+    ids, their_ids = sorted(item.id for item in one.entries), sorted(item.id for item in other.entries)
+    found = []
+    if len(mine) != len(theirs) or len(ids) != len(their_ids) or set(one.ports) != set(other.ports):
+        return found
+    for places in permutations(theirs):
+        nets = dict(zip(mine, places))
+        if any(nets[net] != other.ports[name] for name, net in one.ports.items()):
+            continue
+        moved = {name: one.item_of(name).mapped(nets) for name in ids}
+        for order in permutations(their_ids):
+            if all(moved[name] == other.item_of(there) for name, there in zip(ids, order)):
+                found.append((nets, dict(zip(ids, order))))
+    return found

@@ -28,6 +28,33 @@ Ratio(6, 5)
 'pins amp p q o : p q'
 >>> JoiningKind("res", row="sum", side="inverse").text
 'path res : row sum side inverse'
+
+>>> from wishedwires.reading import parse
+>>> from wishedwires.reducing import reduced
+>>> lines = ["path res : row sum side inverse", "port p a", "port q b", "part r1 res 2 a x", "part r2 res 3 x b"]
+>>> form = reduced(parse("\\n".join(lines + ["part r3 res 5 b a", "part r4 res 1 b y"])))
+>>> [len(form), str(form.entries[0].worths[0]), form.entries[0].names, form.entries[0].ends, form.dropped]
+[1, '5/2', ('r1', 'r2', 'r3'), ('a', 'b'), ('r4',)]
+
+>>> from wishedwires.matching import Matching
+>>> m = Matching({"a": "b", "b": "a"}, {"t": "t"})
+>>> [m("a"), (m * m).is_identity, m.power(-7) == m, list(m)]
+['b', True, True, [('a', 'b'), ('b', 'a')]]
+
+>>> from wishedwires.entries import Item
+>>> from wishedwires.exchanges import Exchanges
+>>> from wishedwires.forms import Form
+>>> from wishedwires.kinds import PinKind
+>>> tap = PinKind("tap", "m")
+>>> form = Form({}, [Item.single(tap, 1, ["x"], ["t1"]), Item.single(tap, 1, ["y"], ["t2"])])
+>>> found = Exchanges(form)
+>>> [found.many, list(found.chain()), found.net_classes(), found.id_classes()]
+[2, [('x', ['x', 'y']), ('y', ['y'])], [['x', 'y']], [['t1', 't2']]]
+
+>>> from wishedwires.colours import first_colours
+>>> one, other = Form({}, [Item.single(tap, 1, ["x"], ["t"])]), Form({}, [Item.single(tap, 1, ["y"], ["t"])])
+>>> first_colours(one, other)
+({'x': 0}, {'y': 0})
 """
 
 

@@ -44,8 +44,14 @@ CLASSES = {
     "expressions": {"Expression": "__and__ __or__ __neg__ leaves __len__ __eq__ __lt__ __le__ mapped",
                     "Leaf": "__init__", "Row": "", "Bundle": ""},
     "entries": {"Item": "branch single __eq__ __lt__ along mapped __len__"},
+    "forms": {"Form": "__init__ ports all_nets item_of __iter__ __len__ __contains__ __eq__"},
+    "reducing": {"Reduction": "__init__ steps do finish form"},
+    "matching": {"Matching": "__init__ __call__ id_of net_map id_map __mul__ __invert__ power __eq__ __len__ __iter__"
+                             " identity"},
+    "exchanges": {"Exchanges": "__init__ __contains__ factors chain net_classes id_classes __len__ __iter__"},
 }
-FUNCTIONS = {"reading": "format_circuit parse"}
+FUNCTIONS = {"reading": "format_circuit parse", "reducing": "reduced lets_trace",
+             "colours": "first_colours next_colours rounds difference", "matching": "carried matchings matching alike"}
 
 
 def parents_of(tree):
@@ -209,7 +215,7 @@ class LanguageTest(unittest.TestCase):
         for _, node, _ in self.each_node():
             if isinstance(node, ast.Attribute) and isinstance(node.ctx, ast.Store):
                 attributes.add(node.attr)
-        self.assertEqual(properties & attributes - {"value", "nets"}, set())
+        self.assertEqual(properties & attributes, set())
         for where, node, parents in self.each_node():
             if isinstance(node, ast.Call) and isinstance(node.func, ast.Attribute):
                 known = node.func.attr in METHODS | methods

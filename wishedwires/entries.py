@@ -13,8 +13,9 @@ class Item:
     It is made by its static methods, which choose the way of writing that is kept: the one with the first key.
     """
 
-    def __init__(self, expression, kind, worths, nets, names):
+    def __init__(self, expression, turned, kind, worths, nets, names):
         self.expression = expression
+        self._turned = turned
         self.kind = kind
         self.is_branch = kind is None
         self.worths = worths
@@ -29,7 +30,7 @@ class Item:
             self.ends = ()
             self.slots = nets
             self.shape = f"single {kind.text}"
-            self.key = " ".join([self.shape, "=", str(worths[0]), *nets])
+            self.key = self.written({net: net for net in nets})
 
     @staticmethod
     def branch(expression, first, second, names):
@@ -41,8 +42,8 @@ class Item:
                 raise InvalidName(net)
         _check_part_names(names)
         turned = -expression
-        one = Item(expression, None, expression.worths, (first, second), names)
-        other = Item(turned, None, turned.worths, (second, first), names)
+        one = Item(expression, turned, None, expression.worths, (first, second), names)
+        other = Item(turned, expression, None, turned.worths, (second, first), names)
         return other if other < one else one
 
     @staticmethod
@@ -54,14 +55,26 @@ class Item:
         if not are_names(nets, len(kind.pins)):
             raise InvalidPins(nets)
         _check_part_names(names)
-        ways = sorted(set([tuple([nets[index] for index in order]) for order in kind.orders]))
-        return Item(None, kind, (worth,), ways[0], names)
+        return Item(None, None, kind, (worth,), kind.first_writing(nets), names)
 
     def along(self, net):
         """The expression of a branch from this end on."""
         if net not in self.ends:
             raise UnknownName(net)
-        return self.expression if net == self.ends[0] else -self.expression
+        return self.expression if net == self.ends[0] else self._turned
+
+    def written(self, words):
+        """A text of the item with words for its nets, in which nothing is joined.
+
+        Texts of two items are equal exactly if the items would be the same with these words as nets.
+        """
+        if not self.is_branch:
+            placed = self.kind.first_writing([words[net] for net in self.slots])
+            return " ".join([self.shape, "=", str(self.worths[0]), *placed])
+        first, second = [words[net] for net in self.ends]
+        there = " ".join([self.expression.written(words), first, second])
+        back = " ".join([self._turned.written(words), second, first])
+        return there if there < back else back
 
     def mapped(self, nets):
         """The item with nets replaced by a dict, its expression made anew."""

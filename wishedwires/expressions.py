@@ -34,6 +34,14 @@ class Expression:
         """The expression made anew with control nets replaced by a dict, which the leaves check."""
         return _composed(self.WAY, [member.mapped(nets) for member in self.members])
 
+    def written(self, words):
+        """A text of the expression with words for its control nets, in which nothing is joined.
+
+        It is equal exactly for those that are the same but for the order within rows and bundles.
+        """
+        opening, closing = self.BRACKETS
+        return opening + "".join(sorted([member.written(words) for member in self.members], key=str)) + closing
+
     def __neg__(self):
         return _composed(self.WAY, [-member for member in self.members])
 
@@ -92,6 +100,10 @@ class Leaf(Expression):
         controls = [nets.get(net, net) for net in self.controls]
         turn = -1 if self.turn < 0 else 1
         return Leaf(self.kind, self.value, *controls, turn=turn)
+
+    def written(self, words):
+        """The leaf as a text; it ends at its only semicolon."""
+        return " ".join([self.shape, str(self.value), *[words[net] for net in self.controls]]) + ";"
 
     def __neg__(self):
         turn = 1 if self.turn < 0 else -1

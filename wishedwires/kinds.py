@@ -28,6 +28,10 @@ class Kind:
         for order in self.orders:
             yield order
 
+    def first_writing(self, words):
+        """The first tuple, in the order of tuples, that the words at the pins become under the exchanges."""
+        return sorted(set([tuple([words[index] for index in order]) for order in self.orders]))[0]
+
     @property
     def text(self):
         """The line that tells this kind in a circuit's text."""
@@ -48,10 +52,19 @@ class PinKind(Kind):
             raise InvalidKind(swaps)
         self.pins = pins
         groups = [[pin for pin in pins if pin in group] for group in swaps]
+        self._groups = [[pins.index(pin) for pin in group] for group in groups]
         self.orders = _orders([_mates(pin, pins, groups) for pin in pins])
         # The first pins of the groups, in the order of the kind's pins, give the groups' order.
         ordered = [group for pin in pins for group in groups if group[0] == pin]
         self._line = _worded(["pins", name, *pins], " , ".join([" ".join(group) for group in ordered]))
+
+    def first_writing(self, words):
+        """The same as in the base, which would try up to 720 orders: the words sorted within each group."""
+        placed = list(words)
+        for group in self._groups:
+            for index, word in zip(group, sorted([words[index] for index in group], key=str)):
+                placed[index] = word
+        return tuple(placed)
 
 
 class PathKind(Kind):
