@@ -28,7 +28,7 @@ UNNAMED = set("""attrgetter breakpoint builtins compile copyright credits delatt
 hasattr help id importlib license locals methodcaller os quit setattr super type vars sys""".split())
 STATEMENTS = (ast.Assign, ast.AugAssign, ast.If, ast.While, ast.For, ast.Return, ast.Break, ast.Continue, ast.Pass,
               ast.Raise, ast.Assert, ast.Delete, ast.Try, ast.Expr, ast.FunctionDef, ast.ClassDef, ast.ImportFrom)
-AT_ONCE = {"zip", "enumerate", "reversed"}
+AT_ONCE = {"zip", "enumerate", "reversed", "range", "map"}
 VIEWS = {"items", "keys", "values"}
 FRAMES = re.compile(r"^(f|tb|co|gi|cr)_[a-z]+$")
 
@@ -48,10 +48,15 @@ CLASSES = {
     "reducing": {"Reduction": "__init__ steps do finish form"},
     "matching": {"Matching": "__init__ __call__ id_of net_map id_map __mul__ __invert__ power __eq__ __len__ __iter__"
                              " identity"},
+    "pricing": {"Prices": "__init__ lost surplus value junction change copied __eq__",
+                "Pairing": "__init__ __setitem__ __getitem__ leave __contains__ __len__ paired __iter__ meetings kept wrong"
+                           " lost_ids surplus_ids revalued price floor copied matching"},
     "exchanges": {"Exchanges": "__init__ __contains__ factors chain net_classes id_classes __len__ __iter__"},
 }
 FUNCTIONS = {"reading": "format_circuit parse", "reducing": "reduced lets_trace",
-             "colours": "first_colours next_colours rounds difference", "matching": "carried matchings matching alike"}
+             "colours": "first_colours next_colours rounds difference", "matching": "carried matchings matching alike",
+             "refuting": "refutation lets_refutation lets_matching", "ways": "ways",
+             "junctions": "greatest_pairs touching_set"}
 
 
 def parents_of(tree):
@@ -240,6 +245,8 @@ class LanguageTest(unittest.TestCase):
             if not isinstance(node, ast.Call):
                 continue
             name, parent = called(node), parents[node]
+            if name == "range" and (isinstance(parent, ast.Compare) or called(parent) in ("len", "reversed")):
+                continue
             if name in generators | AT_ONCE or (name in VIEWS and isinstance(node.func, ast.Attribute)):
                 looped = isinstance(parent, (ast.For, ast.comprehension)) and parent.iter is node
                 self.assertTrue(looped or called(parent) in takers or isinstance(parent, ast.YieldFrom), (where, name))

@@ -123,7 +123,13 @@ def _copied_parts(parts):
         if not isinstance(part, Part):
             raise InvalidCircuit(part)
     _check_kinds(list(parts.values()))
-    return {name: part.copied() for name, part in parts.items()}
+    return {name: _copy_of(part) for name, part in parts.items()}
+
+
+def _copy_of(part):
+    """An equal new part. An operator runs this, and other classes have methods called copied that assign attributes."""
+    nets = part.nets
+    return Part(part.kind, part.value, *nets)
 
 
 def _check_kinds(parts):

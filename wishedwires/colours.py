@@ -90,6 +90,22 @@ def item_prints(form, colours):
     return {name: form.item_of(name).written(words) for name in sorted([item.id for item in form.entries], key=str)}
 
 
+def trail(form, colours, net):
+    """What a form's rounds tell if a net is told apart; equal for nets that the rounds do not tell from one another."""
+    side = {**colours, net: -1}
+    told = []
+    counts = tally(list(side.values()))
+    many = 0
+    while len(counts) > many:
+        many = len(counts)
+        signs = net_signs(form, side, [colour for colour in counts if counts[colour] == 1])
+        told.append(tally(list(signs.values())))
+        order = sorted(set(list(signs.values())))
+        side = {there: order.index(signs[there]) for there in signs}
+        counts = tally(list(side.values()))
+    return [*told, tally(list(item_prints(form, side).values()))]
+
+
 def tally(values):
     """How often each value stands in a list."""
     counts = {}

@@ -72,8 +72,10 @@ class Item:
             placed = self.kind.first_writing([words[net] for net in self.slots])
             return " ".join([self.shape, "=", str(self.worths[0]), *placed])
         first, second = [words[net] for net in self.ends]
-        there = " ".join([self.expression.written(words), first, second])
-        back = " ".join([self._turned.written(words), second, first])
+        along = self.expression.written(words)
+        against = along if self.expression.key == self._turned.key else self._turned.written(words)
+        there = " ".join([along, first, second])
+        back = " ".join([against, second, first])
         return there if there < back else back
 
     def mapped(self, nets):

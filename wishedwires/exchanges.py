@@ -1,8 +1,8 @@
 """Exchanges of a form: its matchings with itself, told by generators."""
 
-from wishedwires.colours import first_colours, settled
 from wishedwires.errors import InvalidMatching
-from wishedwires.matching import Matching, carried, check_limits, is_matching, mates, net_maps, told_apart
+from wishedwires.matching import (Matching, carried, check_limits, is_matching, mates, net_maps, start_colours,
+                                  told_apart)
 
 
 class Exchanges:
@@ -71,7 +71,7 @@ def _net_levels(form):
     The last level is found first: what its exchanges make of a place of an earlier level needs no search then.
     """
     nets = form.all_nets()
-    colourings = [settled(form, form, first_colours(form, form))]
+    colourings = [start_colours(form, form)]
     for net in nets:
         colourings.append(told_apart(form, form, colourings[-1], net, net))
     levels = []

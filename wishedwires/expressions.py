@@ -83,6 +83,7 @@ class Leaf(Expression):
         self.key = f"{self.shape} {self.details}"
         self.control_nets = controls
         self.worths = (worth,)
+        self._head = f"{self.shape} {worth}"
 
     @property
     def value(self):
@@ -103,7 +104,7 @@ class Leaf(Expression):
 
     def written(self, words):
         """The leaf as a text; it ends at its only semicolon."""
-        return " ".join([self.shape, str(self.value), *[words[net] for net in self.controls]]) + ";"
+        return " ".join([self._head, *[words[net] for net in self.controls]]) + ";"
 
     def __neg__(self):
         turn = 1 if self.turn < 0 else -1

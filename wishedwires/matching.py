@@ -1,6 +1,6 @@
 """Matchings of two forms."""
 
-from wishedwires.colours import first_colours, item_prints, number_of_colours, settled
+from wishedwires.colours import first_colours, item_prints, number_of_colours, settled, tally, trail
 from wishedwires.errors import InvalidMatching, LimitExceeded, UnknownName
 
 MOST_ITEMS = 12
@@ -88,7 +88,7 @@ def carried(one, other, nets):
 def matchings(one, other):
     """All matchings of two forms, in their order."""
     check_limits(one, other)
-    colours = settled(one, other, first_colours(one, other))
+    colours = start_colours(one, other)
     if colours is not None:
         for nets in net_maps(one, other, colours, {}):
             for ids in _id_maps(_equal_ids(one, other, nets), {}):
@@ -125,14 +125,32 @@ def is_matching(one, other, nets, ids):
     return _is_map_onto(ids, list(mine), list(theirs)) and all([mine[name] == theirs[ids[name]] for name in mine])
 
 
+def start_colours(one, other):
+    """The settled colouring with which a search begins, or None if it shows that there is no matching.
+
+    Nets are told apart by their trails, too, so that one ring of ten and two of five are unlike here already.
+    """
+    colours = settled(one, other, first_colours(one, other))
+    if colours is None:
+        return None
+    counts = tally(list(colours[0].values()))
+    alone = [colour for colour in counts if counts[colour] == 1]
+    told = [{net: [side[net]] if side[net] in alone else [side[net], *trail(form, side, net)] for net in side}
+            for form, side in zip((one, other), colours)]
+    seen = []
+    for sign in list(told[0].values()) + list(told[1].values()):
+        if sign not in seen:
+            seen.append(sign)
+    return settled(one, other, tuple([{net: seen.index(signs[net]) for net in signs} for signs in told]))
+
+
 def mates(other, colours, net):
     """The nets of the other form, ascending, that have the colour of a net of the first one."""
     return [there for there in other.all_nets() if colours[1][there] == colours[0][net]]
 
 
 def told_apart(one, other, colours, net, there):
-    """A settled colouring in which a net and its mate are told apart from all others, or None if none is without a
-    difference."""
+    """The settled colouring in which a net and its mate are told apart from all others; None if a difference shows."""
     if len(mates(other, colours, net)) == 1:
         return colours
     apart = number_of_colours(colours)
@@ -140,8 +158,10 @@ def told_apart(one, other, colours, net, there):
 
 
 def net_maps(one, other, colours, nets):
-    """The net maps of all matchings that begin with nets, in their order; nets are told apart in the colours, which are
-    settled."""
+    """The net maps of all matchings that begin with nets, in their order.
+
+    The colours are settled, and the nets and their places are told apart in them.
+    """
     names = one.all_nets()
     if len(nets) == len(names):
         yield nets

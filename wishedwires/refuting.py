@@ -1,0 +1,148 @@
+"""Refutations: papers which show that two forms have no matching."""
+
+from wishedwires.checks import is_whole
+from wishedwires.colours import difference, item_prints, net_marks, net_signs, rounds, tally, trail
+from wishedwires.matching import alike, carried, check_limits, is_matching
+
+
+def refutation(one, other):
+    """A refutation of two forms, or None if they are alike."""
+    check_limits(one, other)
+    for name in sorted(set([*one.ports, *other.ports])):
+        if _lacks_one(one, other, name):
+            return ("ports", name)
+    return None if alike(one, other) else _refuted(one, other, [])
+
+
+def lets_refutation(one, other, paper):
+    """Whether any value is a refutation of two forms."""
+    check_limits(one, other)
+    return _holds(one, other, [], paper)
+
+
+def lets_matching(one, other, nets, ids=None):
+    """Whether any two values are the two dicts of a matching; with None for ids, whether some fit the nets."""
+    check_limits(one, other)
+    if ids is None:
+        return carried(one, other, nets) is not None
+    return is_matching(one, other, nets, ids)
+
+
+def _lacks_one(one, other, name):
+    """Whether only one of the forms has a port of this name."""
+    return (name in one.ports) != (name in other.ports)
+
+
+def _refuted(one, other, pairs):
+    """A refutation of forms that have no matching with these fixed pairs."""
+    colourings = []
+    for colours in rounds(one, other, pairs):
+        colourings.append(colours)
+        found = difference(one, other, colours)
+        if found is not None:
+            return ("rounds", tuple(colourings), found)
+    net = _telling_net(one, other, colourings[-1])
+    fixed = [there for _, there in pairs]
+    free = [there for there in other.all_nets() if there not in fixed]
+    return ("try", net, tuple([(there, _refuted(one, other, [*pairs, (net, there)])) for there in free]))
+
+
+def _telling_net(one, other, colours):
+    """A net of one that the rounds tell apart from as many nets of other as can be, of those of its colour.
+
+    If any net were tried, a try that tells nothing might stand there, and all that follows for each of its mates.
+    """
+    counts = tally(list(colours[0].values()))
+    trails = [trail(other, colours[1], net) for net in other.all_nets() if counts[colours[1][net]] > 1]
+    best, left, many = "", 1, 0
+    for net in one.all_nets():
+        peers = counts[colours[0][net]]
+        if peers > 1:
+            unrefuted = trails.count(trail(one, colours[0], net))
+            if unrefuted * many < left * peers or many == 0:
+                best, left, many = net, unrefuted, peers
+    return best
+
+
+def _holds(one, other, pairs, paper):
+    """Whether any value is a refutation with these fixed pairs."""
+    if not isinstance(paper, tuple) or len(paper) < 2:
+        return False
+    if paper[0] == "ports" and len(paper) == 2:
+        return isinstance(paper[1], str) and _lacks_one(one, other, paper[1])
+    if paper[0] == "rounds" and len(paper) == 3:
+        return _are_rounds(one, other, pairs, paper[1]) and _is_difference(one, other, paper[1][-1], paper[2])
+    if paper[0] == "try" and len(paper) == 3:
+        return _is_try(one, other, pairs, paper[1], paper[2])
+    return False
+
+
+def _is_try(one, other, pairs, net, branches):
+    """Whether each way to carry a net that is free is refuted by the branches."""
+    if net not in one.all_nets() or net in [fixed for fixed, _ in pairs]:
+        return False
+    if not isinstance(branches, tuple):
+        return False
+    if not all([isinstance(row, tuple) and len(row) == 2 and isinstance(row[0], str) for row in branches]):
+        return False
+    fixed = [there for _, there in pairs]
+    if sorted([there for there, _ in branches], key=str) != [there for there in other.all_nets() if there not in fixed]:
+        return False
+    return all([_holds(one, other, [*pairs, (net, there)], paper) for there, paper in branches])
+
+
+def _are_rounds(one, other, pairs, colourings):
+    """Whether any value is a tuple of colourings in which nets that must have the same colour do."""
+    if not isinstance(colourings, tuple) or len(colourings) == 0:
+        return False
+    if not all([_is_colouring(one, other, colours) for colours in colourings]):
+        return False
+    signs = net_marks(one, other, pairs)
+    for colours in colourings:
+        if not _have_one_colour(signs, colours):
+            return False
+        signs = (net_signs(one, colours[0]), net_signs(other, colours[1]))
+    return True
+
+
+def _is_colouring(one, other, colours):
+    """Whether any value is a tuple of two dicts that give each net of its form, and no other, an integer."""
+    if not isinstance(colours, tuple) or len(colours) != 2:
+        return False
+    for form, side in zip((one, other), colours):
+        nets = form.all_nets()
+        if not isinstance(side, dict) or len(side) != len(nets) or not all([net in side for net in nets]):
+            return False
+        if not all([is_whole(colour) for colour in side.values()]):
+            return False
+    return True
+
+
+def _have_one_colour(signs, colours):
+    """Whether nets of the two forms have the same colour if they have equal signs."""
+    mine, theirs = [{signs[side][net]: colours[side][net] for net in signs[side]} for side in (0, 1)]
+    for side, opposite in ((0, theirs), (1, mine)):
+        for net, sign in signs[side].items():
+            if sign in opposite and opposite[sign] != colours[side][net]:
+                return False
+    return True
+
+
+def _is_difference(one, other, colours, told):
+    """Whether any value is a difference under a colouring."""
+    if not isinstance(told, tuple) or len(told) not in (2, 3) or not is_whole(told[1]):
+        return False
+    if told[0] == "net" and len(told) == 2:
+        return _differ([list(side.values()) for side in colours], told[1])
+    if told[0] != "item" or len(told) != 3 or told[1] not in (0, 1):
+        return False
+    prints = [item_prints(form, side) for form, side in zip((one, other), colours)]
+    name = told[2]
+    if not isinstance(name, str) or name not in prints[told[1]]:
+        return False
+    return _differ([list(side.values()) for side in prints], prints[told[1]][name])
+
+
+def _differ(sides, value):
+    """Whether two lists have a value unlike numbers of times."""
+    return sides[0].count(value) != sides[1].count(value)
