@@ -124,3 +124,22 @@ def all_matchings(one, other):
             if all(moved[name] == other.item_of(there) for name, there in zip(ids, order)):
                 found.append((nets, dict(zip(ids, order))))
     return found
+
+
+def by_hand(colour):
+    """A net's name for a colour."""
+    return f"c{colour}" if colour >= 0 else f"m{-colour}"
+
+
+def touch(item, net, colours):
+    """A text for the touch of a net, of items that join nothing."""
+    return item.mapped({**{other: by_hand(colours[other]) for other in item.slots}, net: "t" + by_hand(colours[net])}).key
+
+
+def told_print(item, colours):
+    return item.mapped({net: by_hand(colours[net]) for net in item.slots}).key
+
+
+def marks(form, side, pairs):
+    return {net: (sorted(name for name in form.ports if form.ports[name] == net),
+                  [at for at, pair in enumerate(pairs) if pair[side] == net]) for net in form.all_nets()}

@@ -10,24 +10,11 @@ from wishedwires.forms import Form
 from wishedwires.kinds import DirectedKind, JoiningKind, PinKind
 from wishedwires.reading import parse
 from wishedwires.reducing import reduced
-from tests.helper import (AMP, ARROW, GATE, ODD, TAP, TWO, WIRE, Case, branch, random_form, renamed, ring, single, wires)
+from tests.helper import (AMP, ARROW, GATE, ODD, TAP, TWO, WIRE, Case, branch, marks, random_form, renamed, ring, single,
+                          told_print, touch, wires)
 
 PLAIN = PinKind("plain", "m", "n")
 GATED = JoiningKind("gated", "g", row="sum", side="sum")
-
-
-def by_hand(colour):
-    """A net's name for a colour."""
-    return f"c{colour}" if colour >= 0 else f"m{-colour}"
-
-
-def touch(item, net, colours):
-    """A text for the touch of a net, of items that join nothing."""
-    return item.mapped({**{other: by_hand(colours[other]) for other in item.slots}, net: "t" + by_hand(colours[net])}).key
-
-
-def told_print(item, colours):
-    return item.mapped({net: by_hand(colours[net]) for net in item.slots}).key
 
 
 def signs(form, colours):
@@ -43,11 +30,6 @@ def numbered(one, other):
         if sign not in seen:
             seen.append(sign)
     return {net: seen.index(one[net]) for net in one}, {net: seen.index(other[net]) for net in other}
-
-
-def marks(form, side, pairs):
-    return {net: (sorted(name for name in form.ports if form.ports[name] == net),
-                  [at for at, pair in enumerate(pairs) if pair[side] == net]) for net in form.all_nets()}
 
 
 def differences(one, other, colours):

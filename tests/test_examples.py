@@ -55,6 +55,30 @@ Ratio(6, 5)
 >>> one, other = Form({}, [Item.single(tap, 1, ["x"], ["t"])]), Form({}, [Item.single(tap, 1, ["y"], ["t"])])
 >>> first_colours(one, other)
 ({'x': 0}, {'y': 0})
+
+>>> from wishedwires.refuting import lets_refutation, refutation
+>>> one, other = Form({"p": "x"}, []), Form({"q": "x"}, [])
+>>> [lets_refutation(one, other, ("ports", "p")), lets_refutation(one, other, ("ports", "x"))]
+[True, False]
+>>> one = Form({}, [Item.single(tap, 1, ["x"], ["t"])])
+>>> other = Form({}, [Item.single(tap, 1, ["x"], ["t"]), Item.single(tap, 1, ["y"], ["u"])])
+>>> refutation(one, other) == ("rounds", (({"x": 0}, {"x": 0, "y": 0}),), ("net", 0))
+True
+
+>>> from wishedwires.ways import ways
+>>> item = Item.single(PinKind("two", "m", "n", swaps=(("m", "n"),)), 3, ["x", "y"], ["t"])
+>>> ways(item, item)
+[((0, 1), (0,)), ((1, 0), (0,))]
+
+>>> from wishedwires.junctions import greatest_pairs, touching_set
+>>> pairs = [("x", "z"), ("y", "z")]
+>>> [len(greatest_pairs(pairs)), touching_set(pairs)]
+[1, ((), ('z',))]
+
+>>> from wishedwires.pricing import Pairing, Prices
+>>> pairing = Pairing(Form({"p": "x", "q": "y"}, []), Form({"p": "z", "q": "z"}, []))
+>>> [pairing.meetings, len(pairing.kept), str(pairing.price)]
+[(('x', 'z'), ('y', 'z')), 1, '1']
 """
 
 
