@@ -4,8 +4,9 @@ from math import factorial
 from random import Random
 from time import process_time
 
+from wishedwires.colours import first_colours, settled
 from wishedwires.errors import InvalidMatching, LimitExceeded
-from wishedwires.exchanges import Exchanges
+from wishedwires.exchanges import Exchanges, _level
 from wishedwires.expressions import Leaf
 from wishedwires.forms import Form
 from wishedwires.kinds import PinKind
@@ -123,6 +124,16 @@ class ExchangesTest(Case):
         self.assertEqual(list(found.chain())[0], ("a", ["a", "b", "c", "d"]))
         self.assertEqual([found.net_classes(), len(found.id_classes()), len(found.factors(found.generators[0]))],
                          [[["a", "b", "c", "d"]], 1, 1])
+
+    def test_search_without_trails(self):
+        # The trails of the start leave hardly a candidate that fails in forms within the limits.
+        for mine, others in (("abc", "defghi"), ("abcdef", "ghi")):
+            form = Form({}, ring(mine) + ring(others, "v"))
+            colours = settled(form, form, first_colours(form, form))
+            reached, found = _level(form, colours, ["a"], [])
+            self.assertEqual([sorted(reached), len(found) > 0], [list(mine), True])
+            for place, m in reached.items():
+                self.assertEqual([m("a"), m in Exchanges(form)], [place, True])
 
     def test_two_calls(self):
         form = Form({}, [single(TWO, "w x", "t1"), single(TWO, "y z", "t2")])

@@ -2,11 +2,9 @@
 
 from random import Random
 
-from wishedwires.entries import Item
 from wishedwires.errors import InvalidForm, UnknownName
 from wishedwires.expressions import Leaf
 from wishedwires.forms import Form
-from wishedwires.kinds import PinKind
 from tests.helper import (AMP, ODD, TAP, TWO, WIRE, WRONG_NAMES, WRONG_WORDS, Case, branch, of_names, random_form,
                           single)
 
@@ -136,10 +134,3 @@ class EqualTest(Case):
             for other in forms:
                 same = one.ports == other.ports and sorted(item.key for item in one) == sorted(item.key for item in other)
                 self.assertEqual(one == other, same)
-
-    def test_many_pins(self):
-        # A kind's exchanges are the same whether they are tried one by one or its groups are sorted.
-        kind = PinKind("six", *"abcdef", swaps=(("a", "d", "f"), ("c", "b")))
-        nets = ("z", "y", "x", "y", "a", "w")
-        tried = min(tuple(nets[index] for index in order) for order in kind.exchanges())
-        self.assertEqual([kind.first_writing(nets), Item.single(kind, 1, nets, ["t"]).slots], [tried, tried])

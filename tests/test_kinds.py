@@ -141,3 +141,19 @@ class KindTest(Case):
     def test_exchanges_of_every_kind_keep_controls(self):
         for order in PathKind("k", "x", "y", "z").orders:
             self.assertEqual(order[2:], (2, 3, 4))
+
+    def test_base(self):
+        kind = Kind("k1")
+        self.assertEqual([kind.name, kind.pins, kind.controls, kind.is_path, kind.orders, list(kind.exchanges())],
+                         ["k1", (), (), False, ((),), [()]])
+        self.assertEqual([kind.DIRECTED, kind == Kind("k1"), kind == Kind("k2"), kind.first_writing([])], [False, True, False, ()])
+        self.assertNotIn(kind.text, (PinKind("k1", "m").text, PathKind("k1").text))
+
+    def test_first_writing(self):
+        self.assertEqual([PathKind("k", "g").first_writing(("y", "x", "a")), PathKind("k").first_writing(["x", "y"])],
+                         [("x", "y", "a"), ("x", "y")])
+        self.assertEqual(DirectedKind("k", "g").first_writing(("y", "x", "a")), ("y", "x", "a"))
+        for kind in (PinKind("k", *SIX, swaps=(("f", "d"), ("c", "e", "a"))), PinKind("k", *SIX, swaps=(SIX,)), PinKind("k", *SIX)):
+            for words in (("y", "x", "y", "a", "b", "a"), ("3", "11", "2", "1", "-1", "0"), ("f", "e", "d", "c", "b", "a")):
+                tried = min(tuple(words[index] for index in order) for order in kind.exchanges())
+                self.assertEqual([kind.first_writing(words), kind.first_writing(list(words))], [tried, tried])

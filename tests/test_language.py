@@ -273,6 +273,25 @@ class LanguageTest(unittest.TestCase):
             if isinstance(node, ast.ExceptHandler):
                 self.assertIsNotNone(node.type, where)
 
+    def test_stars(self):
+        _, properties, _ = own_names()
+        for where, node, _ in self.each_node():
+            if isinstance(node, ast.Call):
+                for value in [one.value for one in node.args if isinstance(one, ast.Starred)] + [
+                        one.value for one in node.keywords if one.arg is None]:
+                    told = value.elts if isinstance(value, (ast.List, ast.Tuple)) else [value]
+                    for one in told:
+                        read = isinstance(one, ast.Attribute) and isinstance(one.value, ast.Name)
+                        self.assertTrue(isinstance(one, (ast.Name, ast.Constant)) or read, where)
+                        self.assertNotIn(getattr(one, "attr", ""), properties, where)
+
+    def test_iterators(self):
+        for where, node, _ in self.each_node():
+            if isinstance(node, ast.FunctionDef) and node.name == "__iter__":
+                told = ast.unparse(node.body[-1])
+                self.assertEqual(len(node.body), 1, where)
+                self.assertRegex(told, r"^(return iter\(self\.[a-z_]+\)|raise TypeError\('[a-z ]+'\))$", where)
+
     def test_generator_names(self):
         _, _, generators = own_names()
         for where, node, _ in self.each_node():

@@ -4,11 +4,12 @@ from itertools import islice, permutations, product
 from random import Random
 from time import process_time
 
+from wishedwires.colours import first_colours, settled
 from wishedwires.errors import InvalidMatching, LimitExceeded, UnknownName
 from wishedwires.expressions import Leaf
 from wishedwires.forms import Form
 from wishedwires.kinds import PinKind
-from wishedwires.matching import Matching, alike, carried, matching, matchings
+from wishedwires.matching import Matching, alike, carried, matching, matchings, net_maps
 from tests.helper import (AMP, GATE, ODD, TAP, TWO, WIRE, Case, all_matchings, branch, random_form, renamed, ring, single,
                           wires)
 
@@ -203,6 +204,24 @@ class MatchingsTest(Case):
                       {**right, 3: "c"}):
             self.assertIsNone(carried(form, form, wrong))
         self.assertEqual(right, {"a": "a", "b": "b", "c": "c"})
+
+    def test_unlike_numbers_of_equal_items(self):
+        def taps(first, second):
+            return Form({"p": "x", "q": "y"}, [single(TAP, "x", f"t{at}") for at in range(first)] + [
+                single(TAP, "y", f"u{at}") for at in range(second)])
+        for one, other in ((taps(1, 1), taps(2, 1)), (taps(1, 2), taps(2, 1)), (taps(6, 5), taps(5, 6)), (taps(0, 1), taps(1, 0))):
+            for forms in ((one, other), (other, one)):
+                self.assertIsNone(carried(*forms, {"x": "x", "y": "y"}))
+                self.assertFalse(alike(*forms))
+        self.assertEqual(carried(taps(2, 1), taps(2, 1), {"x": "x", "y": "y"}), {"t0": "t0", "t1": "t1", "u0": "u0"})
+
+    def test_search_without_trails(self):
+        # The trails of the start leave hardly a candidate that fails in forms within the limits.
+        one = Form({}, ring("abc") + ring("defghi", "v"))
+        other = renamed(Random(7), one)
+        colours = settled(one, other, first_colours(one, other))
+        self.assertEqual(len({*colours[0].values()}), 1)
+        self.assertEqual(list(net_maps(one, other, colours, {})), [m.net_map() for m in matchings(one, other)])
 
     def test_results_are_new(self):
         form = Form({}, wires("ab"))

@@ -186,7 +186,7 @@ class PairingTest(Case):
         self.assertEqual([pairing.meetings, len(pairing.kept), pairing.wrong, pairing.price, pairing.floor],
                          [(("x", "z"), ("y", "z")), 1, 1, 1, 1])
         self.assertIsNone(pairing.matching())
-        pairing = Pairing(Form({"p": "x", "q": "y", "r": "x"}, []), Form({"r": "v", "q": "w", "p": "v"}, []))
+        pairing = Pairing(Form({"q": "y", "p": "x", "r": "x"}, []), Form({"r": "v", "q": "w", "p": "v"}, []))
         self.assertEqual([pairing.meetings, pairing.price], [(("x", "v"), ("y", "w")), 0])
         self.assertEqual(pairing.matching(), Matching({"x": "v", "y": "w"}, {}))
         self.assertEqual(Pairing(Form({}, []), Form({}, [])).matching(), Matching({}, {}))

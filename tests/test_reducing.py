@@ -300,6 +300,13 @@ class TraceTest(Case):
                       [None], [list(step) for step in self.trace], self.trace[:2] + [("side", "r3", "r1")], 3, *ODD):
             self.assertIs(lets_trace(self.drawn, wrong, self.form), False)
 
+    def test_steps_left(self):
+        reduction = Reduction(self.drawn)
+        for done in range(3):
+            trace = self.trace[:done]
+            self.assertIs(lets_trace(self.drawn, trace, reduction.form()), False)
+            reduction.do(self.trace[done])
+
     def test_wrong_form(self):
         other = Form(self.form.ports, self.form.entries, ["r5"])
         early = Form(self.form.ports, self.form.entries)

@@ -183,6 +183,8 @@ class RefutationTest(Case):
                 self.fails(LimitExceeded, number, lets_refutation, one, other, wrong)
                 self.fails(LimitExceeded, number, lets_matching, one, other, wrong, wrong)
                 self.fails(LimitExceeded, number, lets_matching, one, other, wrong)
+        ported = Form({"p": "x"}, great.entries)
+        self.fails(LimitExceeded, 13, refutation, small, ported)
         twelve = Form({}, [single(TAP, "x", f"t{at}") for at in range(12)])
         full = Form({}, [single(SIX, " ".join(f"n{at}x{by}" for by in range(6)), f"t{at}") for at in range(4)])
         self.assertEqual([refutation(twelve, twelve), refutation(full, full)], [None, None])
@@ -237,6 +239,17 @@ class CheckerTest(Case):
                       ("rounds", None, ("net", 0)), ("rounds", (None,), ("net", 0)), ("rounds", 3, 3), (), ("ports",), 3,
                       ("ports", "p"), ("ports", None), ("ports", ["p"]), ("ports", "p", "p"), ("try", "x", ()), (["rounds"],), *ODD):
             self.assertIs(lets_refutation(one, other, wrong), False, wrong)
+
+    def test_other_words(self):
+        one, other = Form({"p": "x"}, []), Form({"q": "x", "p": "x"}, [])
+        self.assertTrue(lets_refutation(one, other, ("ports", "q")))
+        for wrong in (("port", "q"), ("try", "q"), ("rounds", "q"), ("ports", "q", "q"), ("ports", "p"), ("ports", "r"), (None, "q"),
+                      (("ports",), "q"), ["ports", "q"], ("ports", ("q",)), ("net", "q")):
+            self.assertIs(lets_refutation(one, other, wrong), False)
+        word, net, branches = refutation(rings(4), rings(2, 2))
+        for wrong in ("tries", "rounds", "ports", None, ("try",)):
+            self.assertIs(lets_refutation(rings(4), rings(2, 2), (wrong, net, branches)), False)
+        self.assertTrue(lets_refutation(rings(4), rings(2, 2), (word, net, branches)))
 
     def test_colourings(self):
         one, other = Form({}, [single(TAP, "x", "t")]), Form({}, [single(TWO, "x y", "t")])

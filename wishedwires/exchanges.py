@@ -109,7 +109,8 @@ def _first_exchange(form, colours, nets, place):
     if following is None:
         return None
     begun = {net: net for net in nets[:-1]}
-    for told in net_maps(form, form, following, {**begun, nets[-1]: place}):
+    begun[nets[-1]] = place
+    for told in net_maps(form, form, following, begun):
         return Matching(told, carried(form, form, told))
     return None
 

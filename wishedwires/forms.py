@@ -18,6 +18,7 @@ class Form:
         self.entries = tuple([entries[index] for _, _, index in order])
         self.dropped = tuple(sorted(dropped, key=str))
         self._keys = [item.key for item in self.entries]
+        self._nets = sorted(set(list(ports.values()) + [net for item in self.entries for net in item.slots]))
         seats = tuple([(name, ports[name]) for name in sorted(ports, key=str)])
         self.record = (seats, tuple([(item.key, item.names) for item in self.entries]), self.dropped)
 
@@ -28,7 +29,7 @@ class Form:
 
     def all_nets(self):
         """The sorted nets of the ports and of the items."""
-        return sorted(set(list(self._ports.values()) + [net for item in self.entries for net in item.slots]))
+        return list(self._nets)
 
     def item_of(self, name):
         """The item with a part of this name."""

@@ -91,7 +91,8 @@ def matchings(one, other):
     colours = start_colours(one, other)
     if colours is not None:
         for nets in net_maps(one, other, colours, {}):
-            for ids in _id_maps(_equal_ids(one, other, nets), {}):
+            choices = _equal_ids(one, other, nets)
+            for ids in _id_maps(choices, {}):
                 yield Matching(nets, ids)
 
 
@@ -170,7 +171,8 @@ def net_maps(one, other, colours, nets):
     for there in mates(other, colours, net):
         following = told_apart(one, other, colours, net, there)
         if following is not None:
-            yield from net_maps(one, other, following, {**nets, net: there})
+            longer = {**nets, net: there}
+            yield from net_maps(one, other, following, longer)
 
 
 def _id_maps(choices, ids):
@@ -183,7 +185,8 @@ def _id_maps(choices, ids):
     taken = list(ids.values())
     for there in choices[name]:
         if there not in taken:
-            yield from _id_maps(choices, {**ids, name: there})
+            longer = {**ids, name: there}
+            yield from _id_maps(choices, longer)
 
 
 def _equal_ids(one, other, nets):
@@ -208,8 +211,7 @@ def _is_map_onto(told, names, others):
     """Whether any value is a dict that carries the one sorted list, of different texts, one-to-one onto the other."""
     if not isinstance(told, dict) or len(told) != len(names) or not all([name in told for name in names]):
         return False
-    places = list(told.values())
-    return all([isinstance(place, str) for place in places]) and sorted(places, key=str) == others
+    return sorted(list(told.values()), key=str) == others
 
 
 def _to_itself(form):

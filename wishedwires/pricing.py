@@ -163,17 +163,19 @@ class Pairing:
         return self._partners[at]
 
     def __setitem__(self, at, worth):
-        if not isinstance(at, str) or at not in self._wished_ids:
+        if at not in self._wished_ids:
             raise UnknownName(at)
         if not isinstance(worth, tuple) or len(worth) != 2:
             raise InvalidWay(at)
         partner, way = worth
-        if not isinstance(partner, str) or partner not in self._drawn_ids:
+        if partner not in self._drawn_ids:
             raise UnknownName(partner)
         if partner in [other for name, (other, _) in self._partners.items() if name != at]:
             raise NameInUse(partner)
-        told = ways(self.wished.item_of(at), self.drawn.item_of(partner))
-        if not _are_indices(way) or way not in told:
+        if way not in ways(self.wished.item_of(at), self.drawn.item_of(partner)):
+            raise InvalidWay(at)
+        # True is equal to 1, but no index.
+        if not all([is_whole(index) for row in way for index in row]):
             raise InvalidWay(at)
         self._take({**self._partners, at: worth})
 
@@ -204,13 +206,6 @@ def _checked_price(name, price):
 
 def _ids_of(form):
     return sorted([item.id for item in form.entries], key=str)
-
-
-def _are_indices(way):
-    """Whether any value is a tuple of tuples of integers; True is equal to 1, but none."""
-    if not isinstance(way, tuple) or not all([isinstance(row, tuple) for row in way]):
-        return False
-    return all([is_whole(index) for row in way for index in row])
 
 
 def _meetings_of(pairing):

@@ -8,7 +8,7 @@ from wishedwires.matching import alike, carried, check_limits, is_matching
 def refutation(one, other):
     """A refutation of two forms, or None if they are alike."""
     check_limits(one, other)
-    for name in sorted(set([*one.ports, *other.ports])):
+    for name in sorted(set(list(one.ports) + list(other.ports))):
         if _lacks_one(one, other, name):
             return ("ports", name)
     return None if alike(one, other) else _refuted(one, other, [])
@@ -83,7 +83,7 @@ def _is_try(one, other, pairs, net, branches):
         return False
     if not isinstance(branches, tuple):
         return False
-    if not all([isinstance(row, tuple) and len(row) == 2 and isinstance(row[0], str) for row in branches]):
+    if not all([isinstance(row, tuple) and len(row) == 2 for row in branches]):
         return False
     fixed = [there for _, there in pairs]
     if sorted([there for there, _ in branches], key=str) != [there for there in other.all_nets() if there not in fixed]:
