@@ -130,7 +130,7 @@ class ExchangesTest(Case):
         for mine, others in (("abc", "defghi"), ("abcdef", "ghi")):
             form = Form({}, ring(mine) + ring(others, "v"))
             colours = settled(form, form, first_colours(form, form))
-            reached, found = _level(form, colours, ["a"], [])
+            reached, found = _level(form, colours, "a", [])
             self.assertEqual([sorted(reached), len(found) > 0], [list(mine), True])
             for place, m in reached.items():
                 self.assertEqual([m("a"), m in Exchanges(form)], [place, True])

@@ -110,7 +110,15 @@ class RefutationTest(Case):
         self.assertTrue(right(one, other, paper))
         self.assertIs(lets_refutation(one, other, paper), True)
         self.assertEqual(refutation(one, other), paper)
+        self.check_rounds(one, other, paper, [])
         return paper
+
+    def check_rounds(self, one, other, paper, pairs):
+        """The colourings that the program makes are those of the rounds, with their numbers [16]."""
+        if paper[0] == "rounds":
+            self.assertEqual(list(paper[1]), list(rounds(one, other, pairs))[:len(paper[1])])
+        for there, told in paper[2] if paper[0] == "try" else ():
+            self.check_rounds(one, other, told, [*pairs, (paper[1], there)])
 
     def test_plain_trial(self):
         chance = Random(31)
@@ -161,6 +169,7 @@ class RefutationTest(Case):
         begun = process_time()
         paper = refutation(one, other)
         self.assertEqual([size(paper), lets_refutation(one, other, paper)], [259, True])
+        self.check_rounds(one, other, paper, [])
         self.assertLess(process_time() - begun, 20)
 
     def test_try_beside_other_parts(self):

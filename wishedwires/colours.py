@@ -6,12 +6,12 @@ from wishedwires.errors import UnknownName
 def first_colours(one, other, pairs=()):
     """The first colouring under fixed pairs."""
     _check_pairs(one, other, pairs)
-    return _numbered(net_marks(one, other, pairs))
+    return numbered(net_marks(one, other, pairs))
 
 
 def next_colours(one, other, colours):
     """The colouring that follows after any colouring of all nets."""
-    return _numbered((net_signs(one, colours[0]), net_signs(other, colours[1])))
+    return numbered((net_signs(one, colours[0]), net_signs(other, colours[1])))
 
 
 def rounds(one, other, pairs=()):
@@ -58,7 +58,7 @@ def settled(one, other, colours):
     while net_difference(colours) is None:
         counts = tally(list(colours[0].values()))
         alone = [colour for colour in counts if counts[colour] == 1]
-        following = _numbered((net_signs(one, colours[0], alone), net_signs(other, colours[1], alone)))
+        following = numbered((net_signs(one, colours[0], alone), net_signs(other, colours[1], alone)))
         if number_of_colours(following) == number_of_colours(colours):
             return colours if item_difference(one, other, colours) is None else None
         colours = following
@@ -133,7 +133,7 @@ def _marks(form, fixed):
     return marks
 
 
-def _numbered(signs):
+def numbered(signs):
     """A colouring in which nets have the same colour exactly if they have equal signs."""
     numbers = {}
     for side in signs:

@@ -1,8 +1,7 @@
 """Exchanges of a form: its matchings with itself, told by generators."""
 
 from wishedwires.errors import InvalidMatching
-from wishedwires.matching import (Matching, carried, check_limits, is_matching, mates, net_maps, start_colours,
-                                  told_apart)
+from wishedwires.matching import Matching, check_limits, first_exchange, is_matching, mates, start_colours, told_apart
 
 
 class Exchanges:
@@ -77,42 +76,30 @@ def _net_levels(form):
     levels = []
     movers = []
     for index in reversed(range(len(nets))):
-        reached, found = _level(form, colourings[index], nets[:index + 1], movers)
+        reached, found = _level(form, colourings[index], nets[index], movers)
         movers = movers + found
         levels = [(nets[index], {place: reached[place] for place in nets[index + 1:] if place in reached}), *levels]
     return levels
 
 
-def _level(form, colours, nets, movers):
-    """From the places of the last of some nets to exchanges that keep all others; and those that were searched for.
+def _level(form, colours, net, movers):
+    """A dict from the places of a net to exchanges that carry it there, and the list of those that were searched for.
 
-    In the colours the nets that are kept are told apart; movers are exchanges that keep the last net, too.
+    All of them keep the nets that are told apart in the colours; movers are exchanges that keep this net, too.
     """
-    reached = {nets[-1]: Matching.identity(form)}
+    reached = {net: Matching.identity(form)}
     found = []
     barred = []
-    for place in mates(form, colours, nets[-1]):
+    for place in mates(form, colours, net):
         if place in reached or place in barred:
             continue
-        carrier = _first_exchange(form, colours, nets, place)
+        carrier = first_exchange(form, colours, net, place)
         if carrier is None:
             barred = barred + _orbit(place, [mover.net_map() for mover in movers + found])
         else:
             found.append(carrier)
             reached = _spread(reached, movers + found)
     return reached, found
-
-
-def _first_exchange(form, colours, nets, place):
-    """The first exchange that keeps all of some nets but the last one and carries this one to a place, or None."""
-    following = told_apart(form, form, colours, nets[-1], place)
-    if following is None:
-        return None
-    begun = {net: net for net in nets[:-1]}
-    begun[nets[-1]] = place
-    for told in net_maps(form, form, following, begun):
-        return Matching(told, carried(form, form, told))
-    return None
 
 
 def _spread(reached, movers):

@@ -175,6 +175,16 @@ def net_maps(one, other, colours, nets):
             yield from net_maps(one, other, following, longer)
 
 
+def first_exchange(form, colours, net, place):
+    """The first exchange that carries a net to a place and keeps what is told apart in the colours, or None."""
+    following = told_apart(form, form, colours, net, place)
+    if following is None:
+        return None
+    for nets in net_maps(form, form, following, {}):
+        return Matching(nets, carried(form, form, nets))
+    return None
+
+
 def _id_maps(choices, ids):
     """All one-to-one choices that begin with these ids, in their order; equal ids have equal choices."""
     names = list(choices)

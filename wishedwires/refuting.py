@@ -1,8 +1,8 @@
 """Refutations: papers which show that two forms have no matching."""
 
 from wishedwires.checks import is_whole
-from wishedwires.colours import difference, item_prints, net_marks, net_signs, rounds, tally, trail
-from wishedwires.matching import alike, carried, check_limits, is_matching
+from wishedwires.colours import difference, item_prints, net_marks, net_signs, numbered, rounds, tally, trail
+from wishedwires.matching import alike, carried, check_limits, first_exchange, is_matching
 
 
 def refutation(one, other):
@@ -41,10 +41,34 @@ def _refuted(one, other, pairs):
         found = difference(one, other, colours)
         if found is not None:
             return ("rounds", tuple(colourings), found)
-    net = _telling_net(one, other, colourings[-1])
+    return _tried(one, other, pairs, colourings[-1])
+
+
+def _tried(one, other, pairs, colours):
+    """A refutation that tries to carry a net to each net that is free; colours are settled and show no difference.
+
+    What refutes a net by further tries also refutes the nets to which exchanges carry it, with their names in it.
+    """
+    net = _telling_net(one, other, colours)
     fixed = [there for _, there in pairs]
-    free = [there for there in other.all_nets() if there not in fixed]
-    return ("try", net, tuple([(there, _refuted(one, other, [*pairs, (net, there)])) for there in free]))
+    branches = []
+    for there in [free for free in other.all_nets() if free not in fixed]:
+        paper = None
+        for known, told in branches:
+            if paper is None and told[0] == "try" and colours[1][known] == colours[1][there]:
+                carrier = first_exchange(other, (colours[1], colours[1]), known, there)
+                paper = None if carrier is None else _carried_over(one, other, told, carrier)
+        branches = [*branches, (there, paper or _refuted(one, other, [*pairs, (net, there)]))]
+    return ("try", net, tuple(branches))
+
+
+def _carried_over(one, other, paper, carrier):
+    """A refutation in which an exchange of other has replaced its nets."""
+    if paper[0] == "try":
+        branches = {carrier(there): _carried_over(one, other, told, carrier) for there, told in paper[2]}
+        return ("try", paper[1], tuple([(there, branches[there]) for there in sorted(branches, key=str)]))
+    moved = [numbered((mine, {carrier(net): colour for net, colour in theirs.items()})) for mine, theirs in paper[1]]
+    return ("rounds", tuple(moved), difference(one, other, moved[-1]))
 
 
 def _telling_net(one, other, colours):
@@ -97,11 +121,11 @@ def _are_rounds(one, other, pairs, colourings):
         return False
     if not all([_is_colouring(one, other, colours) for colours in colourings]):
         return False
-    signs = net_marks(one, other, pairs)
-    for colours in colourings:
-        if not _have_one_colour(signs, colours):
+    if not _have_one_colour(net_marks(one, other, pairs), colourings[0]):
+        return False
+    for before, colours in zip(colourings, colourings[1:]):
+        if not _have_one_colour((net_signs(one, before[0]), net_signs(other, before[1])), colours):
             return False
-        signs = (net_signs(one, colours[0]), net_signs(other, colours[1]))
     return True
 
 
