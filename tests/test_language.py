@@ -52,11 +52,24 @@ CLASSES = {
                 "Pairing": "__init__ __setitem__ __getitem__ leave __contains__ __len__ paired __iter__ meetings kept wrong"
                            " lost_ids surplus_ids revalued price floor copied matching"},
     "exchanges": {"Exchanges": "__init__ __contains__ factors chain net_classes id_classes __len__ __iter__"},
+    "mending": {"Board": "__init__ ports ids __contains__ __len__ slots_of worths_of do play undo circuit form"},
+    "blocks": {"BlockKind": "__init__ exchanges text",
+               "Book": "DEPTH PORTS __init__ __setitem__ __getitem__ __contains__ __len__ __iter__ block_names copied"
+                       " __eq__ __add__ __iadd__ kind_of use uses depth_of size_of spread_of form_of total_of name_at"
+                       " number_of part_of walk"},
+    "classes": {"ClassKind": "__init__ exchanges __eq__"},
+    "blockwise": {"BlockMatch": "__call__ back"},
+    "editing": {"Session": "__init__ circuit form number_of do run undo __len__"},
+    "desk": {"Desk": "__init__ say __len__"},
 }
 FUNCTIONS = {"reading": "format_circuit parse", "reducing": "reduced lets_trace",
              "colours": "first_colours next_colours rounds difference", "matching": "carried matchings matching alike",
              "refuting": "refutation lets_refutation lets_matching", "ways": "ways",
-             "junctions": "greatest_pairs touching_set"}
+             "junctions": "greatest_pairs touching_set",
+             "least": "weight least_differences floor_paper lets_floor", "mending": "laid mends cost",
+             "classes": "class_form classing lets_classing", "blockwise": "match_books block_exchanges",
+             "flat": "opened flat flat_alike", "opening": "openings least_openings lets_openings",
+             "within": "places spots most_apart apart_paper lets_apart"}
 
 
 def parents_of(tree):
@@ -189,6 +202,7 @@ class LanguageTest(unittest.TestCase):
         for path, _, tree in self.each_file():
             bound = {node.id for node in ast.walk(tree) if isinstance(node, ast.Name) and not isinstance(node.ctx, ast.Load)}
             bound |= {node.arg for node in ast.walk(tree) if isinstance(node, ast.arg)}
+            bound |= {node.name for node in ast.walk(tree) if isinstance(node, ast.ExceptHandler) and node.name}
             top = {node.name for node in tree.body if isinstance(node, (ast.FunctionDef, ast.ClassDef))}
             brought = {alias.name for node in tree.body if isinstance(node, ast.ImportFrom) for alias in node.names}
             classes = {node.name for node in tree.body if isinstance(node, ast.ClassDef)}

@@ -17,7 +17,7 @@ BUILTINS = set("""len range enumerate zip min max sum abs sorted reversed int st
 isinstance ord repr any all divmod super TypeError""".split())
 PURE_METHODS = set("""copy count endswith find get index isalnum isalpha isdigit islower isspace isupper items join keys
 ljust lower lstrip partition replace rfind rjust rpartition rsplit rstrip split splitlines startswith strip upper values
-zfill removeprefix removesuffix""".split())
+zfill removeprefix removesuffix isascii""".split())
 LIBRARY = {"gcd"}
 
 

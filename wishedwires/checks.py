@@ -1,6 +1,5 @@
 """What the modules ask of values that they are passed: integers, words, names and maps to names."""
 
-LETTERS = "abcdefghijklmnopqrstuvwxyz"
 DIGITS = "0123456789"
 WORD_SIGNS = 12
 NAME_WORDS = 64
@@ -20,13 +19,15 @@ def is_word(value):
     """Whether a value is a name of one word."""
     if not isinstance(value, str) or not 1 <= len(value) <= WORD_SIGNS:
         return False
-    return value[0] in LETTERS and all([sign in LETTERS or sign in DIGITS for sign in value])
+    return value.isascii() and value.isalnum() and value[0].isalpha() and value == value.lower()
 
 
 def is_name(value):
     """Whether a value is a name: words joined by slashes."""
     if not isinstance(value, str):
         return False
+    if "/" not in value:
+        return is_word(value)
     words = value.split("/")
     return len(words) <= NAME_WORDS and all([is_word(word) for word in words])
 

@@ -25,7 +25,7 @@ class Item:
             self.ends = nets
             self.slots = nets + expression.control_nets
             self.shape = f"branch {expression.shape}"
-            self.key = " ".join([self.shape, "=", expression.details, *nets])
+            self.key = _branch_key(expression, nets)
         else:
             self.ends = ()
             self.slots = nets
@@ -42,9 +42,9 @@ class Item:
                 raise InvalidName(net)
         _check_part_names(names)
         turned = -expression
-        one = Item(expression, turned, None, expression.worths, (first, second), names)
-        other = Item(turned, expression, None, turned.worths, (second, first), names)
-        return other if other < one else one
+        if _branch_key(turned, (second, first)) < _branch_key(expression, (first, second)):
+            return Item(turned, expression, None, turned.worths, (second, first), names)
+        return Item(expression, turned, None, expression.worths, (first, second), names)
 
     @staticmethod
     def single(kind, value, nets, names):
@@ -97,6 +97,11 @@ class Item:
         if not isinstance(other, Item):
             raise InvalidForm(other)
         return self.key < other.key
+
+
+def _branch_key(expression, nets):
+    """The key of the branch of an expression between two nets, written in this way."""
+    return " ".join(["branch", expression.shape, "=", expression.details, *nets])
 
 
 def _check_part_names(names):

@@ -24,6 +24,7 @@ class Expression:
         self.key = f"{self.shape} {self.details}"
         self.control_nets = tuple([net for member in members for net in member.control_nets])
         self.worths = tuple([worth for member in members for worth in member.worths])
+        self.has_turns = any([member.has_turns for member in members])
 
     def leaves(self):
         """The leaves, those of each member in order."""
@@ -43,7 +44,7 @@ class Expression:
         return opening + "".join(sorted([member.written(words) for member in self.members], key=str)) + closing
 
     def __neg__(self):
-        return _composed(self.WAY, [-member for member in self.members])
+        return _composed(self.WAY, [-member for member in self.members]) if self.has_turns else self
 
     def __and__(self, other):
         return _composed(Row.WAY, [self, _as_expression(other)])
@@ -83,6 +84,7 @@ class Leaf(Expression):
         self.key = f"{self.shape} {self.details}"
         self.control_nets = controls
         self.worths = (worth,)
+        self.has_turns = self.turn != 0
         self._head = f"{self.shape} {worth}"
 
     @property
@@ -107,8 +109,8 @@ class Leaf(Expression):
         return " ".join([self._head, *[words[net] for net in self.controls]]) + ";"
 
     def __neg__(self):
-        turn = 1 if self.turn < 0 else -1
-        return Leaf(self.kind, self.value, *self.controls, turn=turn)
+        turn = -self.turn
+        return Leaf(self.kind, self.value, *self.controls, turn=turn) if self.has_turns else self
 
 
 class Row(Expression):

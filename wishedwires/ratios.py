@@ -107,11 +107,11 @@ class Ratio:
 
 def value_of(value):
     """A value as a ratio of its own; NotPositive unless it is a ratio or an integer above 0."""
-    if not isinstance(value, Ratio) and not is_whole(value):
+    if isinstance(value, Ratio) and value.top > 0:
+        return Ratio(value.top, value.bottom)
+    if not is_whole(value) or value <= 0:
         raise NotPositive(value)
-    if value <= 0:
-        raise NotPositive(value)
-    return Ratio(1) * value
+    return Ratio(value)
 
 
 def _as_ratio(value):

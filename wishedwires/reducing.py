@@ -7,6 +7,38 @@ from wishedwires.expressions import Leaf
 from wishedwires.forms import Form
 
 
+class Strand:
+    """A branch of a reduction: its names, its ends, its control nets, and how its expression is made.
+
+    The expression is made when a form is asked for, as steps are told by the ends alone.
+    """
+
+    def __init__(self, names, tips, controls, made):
+        self.names = names
+        self.tips = tips
+        self.controls = controls
+        self.made = made
+
+    def far_tip(self, net):
+        """The end that is not this one."""
+        return self.tips[1] if self.tips[0] == net else self.tips[0]
+
+    def told_from(self, net):
+        """The expression from this end on."""
+        told = self._told()
+        return told if net == self.tips[0] else -told
+
+    def _told(self):
+        """The expression from the first end to the second one."""
+        way, one, other = self.made
+        if way == "leaf":
+            return Leaf(one, other, *self.controls)
+        first = self.tips[0]
+        if way == "side":
+            return one.told_from(first) | other.told_from(first)
+        return one.told_from(first) & other.told_from(one.far_tip(first))
+
+
 class Reduction:
     """The items that a circuit's parts have become so far, and the steps that made them."""
 
@@ -14,76 +46,86 @@ class Reduction:
         if not isinstance(circuit, Circuit):
             raise InvalidCircuit(circuit)
         self._ports = circuit.ports
-        self._items = {name: _item_of(name, part) for name, part in circuit.parts()}
+        self._strands = {}
+        self._singles = []
         self._gone = []
+        self._ends = {}
+        self._held = {}
         self.trace = ()
+        self._hold(list(self._ports.values()), 1)
+        for name, part in circuit.parts():
+            self._begin(name, part)
+        self._open_steps = _steps_of(self._strands, self._ends, self._held)
 
     def steps(self):
         """A list of the steps that can be done, each once."""
-        ends = self._inner_ends()
-        inner = sorted(ends, key=str)
-        rows = [("row", net) for net in inner if len(set(ends[net])) == 2 and len(ends[net]) == 2]
-        looses = [("loose", ends[net][0], net) for net in inner if len(ends[net]) == 1]
-        branches = [name for name in sorted(self._items, key=str) if self._items[name].is_branch]
-        places = {name: tuple(sorted(set(self._items[name].ends))) for name in branches}
-        loops = [("loop", name) for name in branches if len(places[name]) == 1]
-        sides = [("side", one, other) for one in branches for other in branches
-                 if one < other and len(places[one]) == 2 and places[one] == places[other]]
-        return loops + looses + sides + rows
+        return list(self._open_steps)
 
     def do(self, step):
         """Does a step."""
-        if step not in self.steps():
+        if step not in self._open_steps:
             raise InvalidStep(step)
         self._apply(step)
 
     def finish(self):
         """Does steps until none is left."""
-        steps = self.steps()
-        while steps:
-            self._apply(steps[0])
-            steps = self.steps()
+        while self._open_steps:
+            self._apply(self._open_steps[0])
 
     def form(self):
         """The form with the items as they are now."""
-        return Form(self._ports, list(self._items.values()), self._gone)
+        items = [Item.single(kind, value, nets, [name]) for name, kind, value, nets in self._singles]
+        for strand in self._strands.values():
+            first, last = strand.tips
+            items.append(Item.branch(strand.told_from(first), first, last, strand.names))
+        return Form(self._ports, items, self._gone)
 
-    def _inner_ends(self):
-        """For each inner net the ids of the branches that end there, one for each end."""
-        items = list(self._items.values())
-        outer = list(self._ports.values())
-        outer = outer + [net for item in items for net in item.slots[len(item.ends):]]
-        ends = {}
-        for name, item in self._items.items():
-            for net in item.ends:
-                ends[net] = ends.get(net, []) + [name]
-        return {net: ends[net] for net in ends if net not in outer}
+    def _begin(self, name, part):
+        """Takes in a part as an item."""
+        kind, nets = part.kind, part.nets
+        if not kind.is_path:
+            self._hold(nets, 1)
+            self._singles.append((name, kind, part.value, nets))
+        else:
+            self._put((name,), nets[:2], nets[2:], ("leaf", kind, part.value))
+
+    def _hold(self, nets, many):
+        """Counts ports, pins of singles and control pins on nets, so many for each."""
+        for net in nets:
+            self._held[net] = self._held.get(net, 0) + many
+
+    def _put(self, names, tips, controls, made):
+        """Puts a branch under the least of its names."""
+        strand = Strand(names, tips, controls, made)
+        self._strands[min(names, key=str)] = strand
+        self._hold(controls, 1)
+        for net in tips:
+            self._ends[net] = [*self._ends.get(net, []), min(names, key=str)]
+
+    def _take(self, name):
+        """Takes a branch away and returns it."""
+        strand = self._strands.pop(name)
+        self._hold(strand.controls, -1)
+        for net in strand.tips:
+            self._ends[net] = [other for other in self._ends[net] if other != name]
+        return strand
 
     def _apply(self, step):
         if step[0] == "row":
-            one, other = self._inner_ends()[step[1]]
-            self._join_row(self._items[one], self._items[other], step[1])
+            first, second = self._ends[step[1]]
+            one, other = self._take(first), self._take(second)
+            self._join("row", one, other, (one.far_tip(step[1]), other.far_tip(step[1])))
         elif step[0] == "side":
-            self._join_side(self._items[step[1]], self._items[step[2]])
+            one, other = self._take(step[1]), self._take(step[2])
+            self._join("side", one, other, one.tips)
         else:
-            self._gone = self._gone + list(self._items[step[1]].names)
-            self._items.pop(step[1])
+            self._gone = [*self._gone, *self._take(step[1]).names]
         self.trace = (*self.trace, step)
+        self._open_steps = _steps_of(self._strands, self._ends, self._held)
 
-    def _join_row(self, one, other, net):
-        first, last = _far_end(one, net), _far_end(other, net)
-        self._put_joined(one, other, one.along(first) & other.along(net), first, last)
-
-    def _join_side(self, one, other):
-        first, last = one.ends
-        self._put_joined(one, other, one.along(first) | other.along(first), first, last)
-
-    def _put_joined(self, one, other, expression, first, last):
+    def _join(self, way, one, other, tips):
         """Puts one branch in the place of two."""
-        self._items.pop(one.id)
-        self._items.pop(other.id)
-        joined = Item.branch(expression, first, last, one.names + other.names)
-        self._items[joined.id] = joined
+        self._put(one.names + other.names, tips, one.controls + other.controls, (way, one, other))
 
 
 def reduced(circuit):
@@ -105,14 +147,20 @@ def lets_trace(circuit, trace, form):
     return len(reduction.steps()) == 0 and reduction.form().record == form.record
 
 
-def _item_of(name, part):
-    """The item that a part is at the beginning."""
-    if not part.kind.is_path:
-        return Item.single(part.kind, part.value, part.nets, [name])
-    first, last, *controls = part.nets
-    return Item.branch(Leaf(part.kind, part.value, *controls), first, last, [name])
-
-
-def _far_end(branch, net):
-    """The end of a branch that is not this one."""
-    return branch.ends[1] if branch.ends[0] == net else branch.ends[0]
+def _steps_of(strands, ends, held):
+    """The steps for some branches, with their ends at each net, and how many other pins and ports hold each net."""
+    inner = [net for net in sorted(ends, key=str) if 1 <= len(ends[net]) <= 2 and held.get(net, 0) == 0]
+    rows = [("row", net) for net in inner if len(ends[net]) == 2 and ends[net][0] != ends[net][1]]
+    looses = [("loose", ends[net][0], net) for net in inner if len(ends[net]) == 1]
+    loops = []
+    peers = {}
+    for name in sorted(strands, key=str):
+        first, last = strands[name].tips
+        if first == last:
+            loops.append(("loop", name))
+        else:
+            place = (first, last) if first < last else (last, first)
+            peers[place] = [*peers.get(place, []), name]
+    sides = [("side", one, other) for name in list(peers) for one in peers[name] for other in peers[name]
+             if one < other]
+    return loops + looses + sorted(set(sides)) + rows

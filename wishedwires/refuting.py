@@ -2,16 +2,25 @@
 
 from wishedwires.checks import is_whole
 from wishedwires.colours import difference, item_prints, net_marks, net_signs, numbered, rounds, tally, trail
-from wishedwires.matching import alike, carried, check_limits, first_exchange, is_matching
+from wishedwires.matching import carried, check_limits, first_exchange, is_matching, matching
 
 
 def refutation(one, other):
     """A refutation of two forms, or None if they are alike."""
+    return compared(one, other)[1]
+
+
+def compared(one, other):
+    """The first matching of two forms and None; or None and a refutation."""
     check_limits(one, other)
     for name in sorted(set(list(one.ports) + list(other.ports))):
         if _lacks_one(one, other, name):
-            return ("ports", name)
-    return None if alike(one, other) else _refuted(one, other, [])
+            return None, ("ports", name)
+    colourings, paper = _refuted_by_rounds(one, other, [])
+    if paper is not None:
+        return None, paper
+    found = matching(one, other)
+    return (found, None) if found is not None else (None, _tried(one, other, [], colourings[-1]))
 
 
 def lets_refutation(one, other, paper):
@@ -35,13 +44,19 @@ def _lacks_one(one, other, name):
 
 def _refuted(one, other, pairs):
     """A refutation of forms that have no matching with these fixed pairs."""
+    colourings, paper = _refuted_by_rounds(one, other, pairs)
+    return _tried(one, other, pairs, colourings[-1]) if paper is None else paper
+
+
+def _refuted_by_rounds(one, other, pairs):
+    """The list of the colourings of the rounds, up to the first that shows a difference, and a paper if one does."""
     colourings = []
     for colours in rounds(one, other, pairs):
         colourings.append(colours)
         found = difference(one, other, colours)
         if found is not None:
-            return ("rounds", tuple(colourings), found)
-    return _tried(one, other, pairs, colourings[-1])
+            return colourings, ("rounds", tuple(colourings), found)
+    return colourings, None
 
 
 def _tried(one, other, pairs, colours):
