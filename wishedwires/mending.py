@@ -16,9 +16,9 @@ WORDS = {"take": 2, "value": 4, "move": 3, "put": 4}
 class Drawn:
     """An item of a sketch: the item of a form that it was made from, with nets and values of its own."""
 
-    def __init__(self, item, places, worths):
+    def __init__(self, item, at_pins, worths):
         self.item = item
-        self.places = places
+        self.at_pins = at_pins
         self.worths = worths
 
 
@@ -49,7 +49,7 @@ class Board:
 
     def slots_of(self, name):
         """The tuple of the nets at the pins of an item."""
-        return self._item_at(name).places
+        return self._item_at(name).at_pins
 
     def worths_of(self, name):
         """The tuple of the values of an item."""
@@ -134,9 +134,9 @@ class Board:
         name, index = pin
         if isinstance(index, str):
             return self._seats.get(index) if name == "port" else None
-        if name not in self or not is_whole(index) or not 0 <= index < len(self._sketch[name].places):
+        if name not in self or not is_whole(index) or not 0 <= index < len(self._sketch[name].at_pins):
             return None
-        return self._sketch[name].places[index]
+        return self._sketch[name].at_pins[index]
 
     def _can_put(self, wanted, name, nets):
         """Whether values tell the id of a wished item, a new id, and a tuple of nets for the item."""
@@ -153,7 +153,7 @@ class Board:
             self._sketch.pop(deed[1])
         elif deed[0] == "value":
             old = self._sketch[deed[1]]
-            self._sketch[deed[1]] = Drawn(old.item, old.places, _with_index(old.worths, deed[2], deed[3]))
+            self._sketch[deed[1]] = Drawn(old.item, old.at_pins, _with_index(old.worths, deed[2], deed[3]))
         elif deed[0] == "put":
             item = self.wished.item_of(deed[1])
             self._sketch[deed[2]] = Drawn(item, deed[3], item.worths)
@@ -168,7 +168,7 @@ class Board:
             self._seats = {**self._seats, index: net}
         else:
             old = self._sketch[name]
-            self._sketch[name] = Drawn(old.item, _with_index(old.places, index, net), old.worths)
+            self._sketch[name] = Drawn(old.item, _with_index(old.at_pins, index, net), old.worths)
 
 
 class Layout:
@@ -189,12 +189,12 @@ class Layout:
     def lay(self, name, drawn):
         """Adds the parts of an item of a sketch."""
         if not drawn.item.is_branch:
-            self.laid_parts[name] = Part(drawn.item.kind, drawn.worths[0], *drawn.places)
+            self.laid_parts[name] = Part(drawn.item.kind, drawn.worths[0], *drawn.at_pins)
             return
         leaves = _leaf_rows(drawn)
         names = [name] + [self.new_name() for _ in leaves[1:]]
         rows = [(leaf, told) for leaf, told in zip(names, leaves)]
-        self._lay_between(drawn.item.expression, rows, drawn.places[0], drawn.places[1])
+        self._lay_between(drawn.item.expression, rows, drawn.at_pins[0], drawn.at_pins[1])
 
     def _lay_between(self, expression, rows, first, last):
         """Adds the parts of an expression between two nets; rows tell names, values and control nets of its leaves."""
@@ -259,7 +259,7 @@ def _with_index(row, index, value):
 
 def _laid_out(ports, sketch):
     """The circuit of a sketch."""
-    nets = [net for drawn in sketch.values() for net in drawn.places]
+    nets = [net for drawn in sketch.values() for net in drawn.at_pins]
     layout = Layout(list(sketch), nets + list(ports.values()))
     for name in sorted(sketch, key=str):
         layout.lay(name, sketch[name])
@@ -269,7 +269,7 @@ def _laid_out(ports, sketch):
 def _leaf_rows(drawn):
     """The value and the tuple of control nets of each leaf of a branch of a sketch."""
     rows = []
-    controls = drawn.places[2:]
+    controls = drawn.at_pins[2:]
     for leaf, worth in zip(drawn.item.expression.leaves(), drawn.worths):
         many = len(leaf.controls)
         rows.append((worth, controls[:many]))
