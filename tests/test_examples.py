@@ -79,6 +79,40 @@ True
 >>> pairing = Pairing(Form({"p": "x", "q": "y"}, []), Form({"p": "z", "q": "z"}, []))
 >>> [pairing.meetings, len(pairing.kept), str(pairing.price)]
 [(('x', 'z'), ('y', 'z')), 1, '1']
+
+>>> from wishedwires.least import floor_paper, least_differences, lets_floor
+>>> wished, drawn = Form({"p": "x", "q": "y"}, []), Form({"p": "z", "q": "z"}, [])
+>>> told = least_differences(wished, drawn)
+>>> [told.meetings, told.wrong, str(told.price), lets_floor(wished, drawn, 1, ("bound", (), ("z",))), floor_paper(wished, drawn, 2)]
+[(('x', 'z'), ('y', 'z')), 1, '1', True, None]
+
+>>> from wishedwires.circuits import Circuit
+>>> from wishedwires.mending import Board, laid
+>>> from wishedwires.parts import Part
+>>> form = reduced(Circuit({"p": "a"}, {"t": Part(PinKind("two", "m", "n"), 1, "a", "b")}))
+>>> board = Board(form, form)
+>>> board.do(("move", (("t", 0), ("port", "p")), "c"))
+>>> [board.slots_of("t"), board.ports, reduced(laid(form)) == form]
+[('c', 'b'), {'p': 'c'}, True]
+
+>>> from wishedwires.blocks import Book
+>>> two = PinKind("two", "m", "n", swaps=(("m", "n"),))
+>>> half = Circuit({"p": "a", "q": "b"}, {"r": Part(two, 3, "a", "b")})
+>>> book = Book({"half": half})
+>>> pair = Circuit({"p": "a", "q": "b"}, {"u": book.use("half", "a", "x"), "v": book.use("half", "b", "x")})
+>>> more = Book({"half": half, "pair": pair})
+>>> [more.size_of("pair"), more.spread_of("pair"), str(more.total_of("pair", "two")), more.name_at("pair", 1)]
+[2, 4, '6', 'v/r']
+
+>>> from wishedwires.blockwise import block_exchanges, match_books
+>>> [block_exchanges(more, "pair"), match_books(more, "pair", more, "pair")("v/r")]
+[[(0, 1), (1, 0)], 'v/r']
+
+>>> from wishedwires.flat import flat
+>>> from wishedwires.opening import least_openings
+>>> other = Book({"pair": flat(more, "pair")})
+>>> [flat(more, "pair").part_names(), other["pair"]["v/r"].nets, least_openings(more, "pair", other, "pair")]
+[['u/r', 'v/r'], ('b', 'x'), (('half',), ())]
 """
 
 

@@ -322,3 +322,63 @@ class TraceTest(Case):
         trace = list(self.trace)
         self.assertTrue(lets_trace(self.drawn, trace, self.form))
         self.assertEqual(trace, self.trace)
+
+
+class TwelvePartsTest(Case):
+    """A circuit of twelve parts of all sorts, its trace, and the trace with a step left out."""
+
+    TEXT = """path dio : directed
+path res : row sum side inverse
+path sw g : row sum
+pins hub p q o : p q
+port p n0
+port q n3
+part r0 res 2 n0 n1
+part r1 res 3 n1 n2
+part r2 sw 2 n2 n3 n1
+part r3 res 5 n0 n4
+part r4 res 1 n4 n3
+part r5 sw 4 n3 n5 n4
+part r6 res 1 n5 n5
+part r7 dio 2 n0 n6
+part r8 dio 1 n6 n3
+part r9 hub 1 n0 n3 n3
+part r10 res 7 n0 n7
+part r11 res 2 n7 n0"""
+
+    def test_answers(self):
+        drawn = parse(self.TEXT)
+        reduction = Reduction(drawn)
+        while reduction.steps():
+            steps = reduction.steps()
+            self.assertCountEqual(steps, steps_by_the_words(reduction.form()))
+            reduction.do(steps[0])
+        form, trace = reduction.form(), list(reduction.trace)
+        self.assertEqual([len(trace), form.record], [8, reduced(drawn).record])
+        self.assertEqual([item.names for item in form],
+                         [("r1", "r2"), ("r0",), ("r3", "r4", "r7", "r8"), ("r9",)])
+        self.assertEqual([form.dropped, form.item_of("r3").ends in (("n0", "n3"), ("n3", "n0"))],
+                         [("r10", "r11", "r5", "r6"), True])
+        told = [lets_trace(drawn, trace[:at] + trace[at + 1:], form) for at in range(3)]
+        self.assertEqual([lets_trace(drawn, trace, form), *told], [True, False, False, False])
+
+    def test_a_circuit_that_is_changed_meanwhile(self):
+        drawn = parse(self.TEXT)
+        right = reduced(drawn)
+        reduction = Reduction(drawn)
+        reduction.do(reduction.steps()[-1])
+        drawn["r0"].set_value(99)
+        drawn["r3"].set_nets("far", "away")
+        drawn.take_out("r9")
+        drawn.drop_port("p")
+        early = reduction.form()
+        reduction.finish()
+        self.assertEqual([reduction.form().record, len(early)], [right.record, 11])
+
+    def test_steps_are_told_anew(self):
+        reduction = Reduction(parse(self.TEXT))
+        steps = reduction.steps()
+        reduction.steps().clear()
+        self.assertEqual(reduction.steps(), steps)
+        self.fails(InvalidStep, ("row", "n0"), reduction.do, ("row", "n0"))
+        self.assertEqual([reduction.steps(), reduction.trace], [steps, ()])
