@@ -218,7 +218,9 @@ class LanguageTest(unittest.TestCase):
         for path, text, tree in self.each_file():
             for word in re.findall(r"[A-Za-z_]+", text):
                 self.assertNotIn(word, BARRED, path)
-                self.assertFalse(word.startswith(("_wall", "_pe_", "_enum_", "_cm_", "_law_", "_stub_", "_sre", "_record")))
+                self.assertFalse(word.startswith(("_wall", "_pe_", "_dcw_", "_enum_", "_cm_", "_twin_re_", "_lay_", "_law_",
+                                                  "_stub_", "_sre", "_record", "_cold", "_tuplegetter", "_outside",
+                                                  "_written_out", "_member_names")), (path, word))
             for node in ast.walk(tree):
                 name = getattr(node, "attr", getattr(node, "id", getattr(node, "arg", None)))
                 if isinstance(name, str):

@@ -9,7 +9,6 @@ from wishedwires.parts import Part
 from wishedwires.ratios import Ratio
 from wishedwires.reducing import reduced
 
-MOST_PORTS = 5
 MOST_WALKED = 1000
 
 
@@ -18,7 +17,7 @@ class BlockKind(Kind):
 
     def __init__(self, name, *ports):
         super().__init__(name)
-        if not 1 <= len(ports) <= MOST_PORTS or not are_different_words(ports):
+        if not 1 <= len(ports) <= Book.PORTS or not are_different_words(ports):
             raise InvalidKind(ports)
         self.pins = ports
         self.orders = (tuple(range(len(ports))),)
@@ -59,7 +58,7 @@ class Book:
     """Blocks by their names."""
 
     DEPTH = 60
-    PORTS = MOST_PORTS
+    PORTS = 5
 
     def __init__(self, blocks=None):
         given = {} if blocks is None else blocks

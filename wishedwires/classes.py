@@ -7,7 +7,7 @@ from wishedwires.errors import LimitExceeded
 from wishedwires.forms import Form
 from wishedwires.kinds import Kind
 from wishedwires.matching import MOST_ITEMS, MOST_NETS, Matching, carried, matching
-from wishedwires.refuting import compared, lets_refutation, refutation
+from wishedwires.refuting import compared, lets_refutation, refutation, refuted_without_names
 
 
 class ClassKind(Kind):
@@ -75,11 +75,12 @@ def classing(one, other):
     for _, side, name in sorted(set(ordered)):
         own = shelf.books[side].kind_of(name).pins
         form, count = shelf.formed(side, name, own), shelf.counts[side][name]
-        sign = (count, _sign(form))
-        seat = _seat_among(shelf, form, [index for index, told in enumerate(signs) if told == sign])
+        turned, sign = _all_turned(form), (count, _sign(form))
+        seat = _seat_among(shelf, turned, [index for index, told in enumerate(signs) if told == sign])
         if seat is None:
-            turns = _turns(form)
-            rows.append([[(side, name, own, _net_pairs(Matching.identity(form)))], turns, _reasons(shelf, form, count)])
+            turns = _turns(form, turned)
+            first = (side, name, own, _net_pairs(Matching.identity(form)))
+            rows.append([[first], turns, _reasons(shelf, form, turned, count)])
             signs.append(sign)
             shelf.begin(form, count, _exchanges_in(turns))
             shelf.seat(len(rows) - 1, side, name, own)
@@ -104,7 +105,8 @@ def lets_classing(one, other, paper):
             return False
         side, name, ports, _ = members[0]
         form, count = shelf.formed(side, name, ports), shelf.counts[side][name]
-        if not _are_turns(form, turns) or not _are_reasons(shelf, form, count, apart):
+        turned = _all_turned(form)
+        if not _are_turns(form, turned, turns) or not _are_reasons(shelf, turned, count, apart):
             return False
         shelf.begin(form, count, _exchanges_in(turns))
         for side, name, ports, _ in members:
@@ -177,10 +179,14 @@ def _permutations(many):
     return found
 
 
-def _turned(form, turn):
-    """A class form with the port of index turn[k] as port k."""
+def _all_turned(form):
+    """For each permutation of ports, ascending, a pair: the class form with the port of index turn[k] as port k."""
     ports = form.ports
-    return Form({_port_name(place): ports[_port_name(index)] for place, index in enumerate(turn)}, form.entries)
+    told = []
+    for turn in _permutations(len(ports)):
+        seats = {_port_name(place): ports[_port_name(index)] for place, index in enumerate(turn)}
+        told.append((turn, Form(seats, form.entries)))
+    return told
 
 
 def _sign(form):
@@ -201,38 +207,49 @@ def _exchanges_in(turns):
     return tuple([turn for turn, nets, _ in turns if nets is not None])
 
 
-def _seat_among(shelf, form, indices):
+def _seat_among(shelf, turned, indices):
     """The first of some classes to which a class form belongs: its index, a turn that shows it, and nets; or None."""
-    turns = _permutations(len(form.ports))
     for index in indices:
-        for turn in turns:
-            found = matching(shelf.rows[index][0], _turned(form, turn))
+        for turn, form in turned:
+            found = matching(shelf.rows[index][0], form)
             if found is not None:
                 return index, turn, _net_pairs(found)
     return None
 
 
-def _turns(form):
-    """Which permutations of the ports of a class form are exchanges."""
+def _turns(form, turned):
+    """Which permutations of the ports of a class form are exchanges, and what shows it."""
     told = []
-    for turn in _permutations(len(form.ports)):
-        found, paper = compared(form, _turned(form, turn))
+    for turn, other in turned:
+        found, paper = compared(form, other)
         told.append((turn, None if found is None else _net_pairs(found), paper))
     return tuple(told)
 
 
-def _reasons(shelf, form, count):
+def _reasons(shelf, form, turned, count):
     """Why a class form is of none of the classes so far."""
-    return tuple([(index, _reason(first, before, form, count)) for index, (first, before, _) in enumerate(shelf.rows)])
+    reasons = []
+    for index, (first, before, _) in enumerate(shelf.rows):
+        reason = _plain_reason(first, before, form, count)
+        reasons.append((index, ("forms", _refutations(first, turned)) if reason is None else reason))
+    return tuple(reasons)
 
 
-def _reason(first, before, form, count):
-    """Why a class form with so many items is not of the class of another one."""
+def _plain_reason(first, before, form, count):
+    """Why numbers of ports or items tell a class form from another one, or None if they don't."""
     if len(first.ports) != len(form.ports):
         return ("ports",)
-    if before != count:
-        return ("items", count, before)
-    return ("forms", tuple([refutation(first, _turned(form, turn)) for turn in _permutations(len(form.ports))]))
+    return ("items", count, before) if before != count else None
+
+
+def _refutations(first, turned):
+    """A refutation of a class form and of each of those that another one is turned to."""
+    shared = refuted_without_names(first, turned[0][1])
+    if shared is None:
+        return tuple([refutation(first, form) for _, form in turned])
+    word, colourings, told = shared
+    # Each paper has dicts of its own.
+    return tuple([(word, tuple([(dict(mine), dict(theirs)) for mine, theirs in colourings]), told) for _ in turned])
 
 
 def _are_members(shelf, members):
@@ -283,25 +300,24 @@ def _is_pair(pair):
     return isinstance(pair, tuple) and len(pair) == 2 and all([isinstance(net, str) for net in pair])
 
 
-def _are_turns(form, turns):
+def _are_turns(form, turned, turns):
     """Whether any value tells of each permutation of ports, ascending, whether it is an exchange, and shows it."""
-    permutations = _permutations(len(form.ports))
-    if not isinstance(turns, tuple) or len(turns) != len(permutations):
+    if not isinstance(turns, tuple) or len(turns) != len(turned):
         return False
-    for turn, row in zip(permutations, turns):
+    for (turn, other), row in zip(turned, turns):
         if not isinstance(row, tuple) or len(row) != 3 or not isinstance(row[0], tuple):
             return False
         if row[0] != turn or not all([is_whole(place) for place in row[0]]):
             return False
         if row[1] is None:
-            if not lets_refutation(form, _turned(form, turn), row[2]):
+            if not lets_refutation(form, other, row[2]):
                 return False
-        elif row[2] is not None or not _are_nets(form, _turned(form, turn), row[1]):
+        elif row[2] is not None or not _are_nets(form, other, row[1]):
             return False
     return True
 
 
-def _are_reasons(shelf, form, count, apart):
+def _are_reasons(shelf, turned, count, apart):
     """Whether any value tells, for each class so far, why a class form is not of it."""
     if not isinstance(apart, tuple) or len(apart) != len(shelf.rows):
         return False
@@ -309,19 +325,18 @@ def _are_reasons(shelf, form, count, apart):
         if not isinstance(row, tuple) or len(row) != 2 or not is_whole(row[0]) or row[0] != index:
             return False
         first, before, _ = shelf.rows[index]
-        if not _is_reason(first, before, form, count, row[1]):
+        if not _is_reason(first, before, turned, count, row[1]):
             return False
     return True
 
 
-def _is_reason(first, before, form, count, reason):
+def _is_reason(first, before, turned, count, reason):
     """Whether any value tells why a class form with so many items is not of the class of another one."""
     if not isinstance(reason, tuple):
         return False
-    if len(first.ports) != len(form.ports) or before != count:
-        told = _reason(first, before, form, count)
+    told = _plain_reason(first, before, turned[0][1], count)
+    if told is not None:
         return reason == told and all([is_whole(number) for number in reason[1:]])
-    turns = _permutations(len(form.ports))
-    if len(reason) != 2 or reason[0] != "forms" or not isinstance(reason[1], tuple) or len(reason[1]) != len(turns):
+    if len(reason) != 2 or reason[0] != "forms" or not isinstance(reason[1], tuple) or len(reason[1]) != len(turned):
         return False
-    return all([lets_refutation(first, _turned(form, turn), paper) for turn, paper in zip(turns, reason[1])])
+    return all([lets_refutation(first, form, paper) for (_, form), paper in zip(turned, reason[1])])

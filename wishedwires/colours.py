@@ -126,11 +126,12 @@ def _check_pairs(one, other, pairs):
 def _marks(form, fixed):
     """The mark of each net: the ports on it, and where it stands in a list of nets."""
     ports = form.ports
-    marks = {}
-    for net in form.all_nets():
-        names = [name for name in sorted(ports, key=str) if ports[name] == net]
-        marks[net] = (tuple(names), tuple([index for index, other in enumerate(fixed) if other == net]))
-    return marks
+    names, places = {}, {}
+    for name in sorted(ports, key=str):
+        names[ports[name]] = (*names.get(ports[name], ()), name)
+    for index, net in enumerate(fixed):
+        places[net] = (*places.get(net, ()), index)
+    return {net: (names.get(net, ()), places.get(net, ())) for net in form.all_nets()}
 
 
 def numbered(signs):

@@ -151,7 +151,8 @@ def _edited(session, word, rest):
 
 def _new_part(session, words):
     """The part that the words of a command tell, of a kind that a part of the circuit has."""
-    kinds = {part.kind.name: part.kind for _, part in session.circuit().parts()}
+    circuit = session.circuit()
+    kinds = {part.kind.name: part.kind for _, part in circuit.parts()}
     _, name, value, *nets = words
     if name not in kinds:
         raise UnknownName(name)

@@ -39,7 +39,8 @@ def touched(seconds, owners):
     waiting = [first for first in seconds if first not in owned]
     reached = {}
     while waiting:
-        for second in seconds[waiting.pop()]:
+        first = waiting.pop()
+        for second in seconds[first]:
             if second not in reached:
                 reached[second] = True
                 waiting.append(owners[second])

@@ -194,9 +194,9 @@ class Layout:
         leaves = _leaf_rows(drawn)
         names = [name] + [self.new_name() for _ in leaves[1:]]
         rows = [(leaf, told) for leaf, told in zip(names, leaves)]
-        self._lay_between(drawn.item.expression, rows, drawn.at_pins[0], drawn.at_pins[1])
+        self._set_between(drawn.item.expression, rows, drawn.at_pins[0], drawn.at_pins[1])
 
-    def _lay_between(self, expression, rows, first, last):
+    def _set_between(self, expression, rows, first, last):
         """Adds the parts of an expression between two nets; rows tell names, values and control nets of its leaves."""
         if isinstance(expression, Leaf):
             name, (worth, controls) = rows[0]
@@ -208,7 +208,7 @@ class Layout:
             following = last
             if expression.WAY == "row" and index + 1 < len(expression.members):
                 following = self.new_name()
-            self._lay_between(member, left[:len(member)], at, following)
+            self._set_between(member, left[:len(member)], at, following)
             left = left[len(member):]
             at = following if expression.WAY == "row" else first
 

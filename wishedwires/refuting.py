@@ -1,7 +1,8 @@
 """Refutations: papers which show that two forms have no matching."""
 
 from wishedwires.checks import is_whole
-from wishedwires.colours import difference, item_prints, net_marks, net_signs, numbered, rounds, tally, trail
+from wishedwires.colours import difference, first_colours, item_prints, net_marks, net_signs, next_colours
+from wishedwires.colours import number_of_colours, numbered, tally, trail
 from wishedwires.matching import carried, check_limits, first_exchange, is_matching, matching
 
 
@@ -13,14 +14,26 @@ def refutation(one, other):
 def compared(one, other):
     """The first matching of two forms and None; or None and a refutation."""
     check_limits(one, other)
-    for name in sorted(set(list(one.ports) + list(other.ports))):
-        if _lacks_one(one, other, name):
-            return None, ("ports", name)
-    colourings, paper = _refuted_by_rounds(one, other, [])
+    lacking = sorted(set(list(one.ports)) ^ set(list(other.ports)))
+    if lacking:
+        return None, ("ports", lacking[0])
+    colourings, paper = _refuted_by_rounds(one, other, first_colours(one, other))
     if paper is not None:
         return None, paper
     found = matching(one, other)
     return (found, None) if found is not None else (None, _tried(one, other, [], colourings[-1]))
+
+
+def refuted_without_names(one, other):
+    """A refutation of two forms that holds whatever the names of their ports are, or None if rounds find none.
+
+    The rounds begin with how many ports are on each net: nets with equal marks have equal numbers.
+    """
+    counts = []
+    for form in (one, other):
+        ported = tally(list(form.ports.values()))
+        counts.append({net: ported.get(net, 0) for net in form.all_nets()})
+    return _refuted_by_rounds(one, other, numbered(counts))[1]
 
 
 def lets_refutation(one, other, paper):
@@ -44,19 +57,21 @@ def _lacks_one(one, other, name):
 
 def _refuted(one, other, pairs):
     """A refutation of forms that have no matching with these fixed pairs."""
-    colourings, paper = _refuted_by_rounds(one, other, pairs)
+    colourings, paper = _refuted_by_rounds(one, other, first_colours(one, other, pairs))
     return _tried(one, other, pairs, colourings[-1]) if paper is None else paper
 
 
-def _refuted_by_rounds(one, other, pairs):
-    """The list of the colourings of the rounds, up to the first that shows a difference, and a paper if one does."""
-    colourings = []
-    for colours in rounds(one, other, pairs):
-        colourings.append(colours)
-        found = difference(one, other, colours)
-        if found is not None:
-            return colourings, ("rounds", tuple(colourings), found)
-    return colourings, None
+def _refuted_by_rounds(one, other, colours):
+    """The list of the colourings of rounds that begin with one, and a paper if the last of them shows a difference."""
+    colourings = [colours]
+    found = difference(one, other, colours)
+    while found is None:
+        following = next_colours(one, other, colourings[-1])
+        if number_of_colours(following) == number_of_colours(colourings[-1]):
+            return colourings, None
+        colourings.append(following)
+        found = difference(one, other, following)
+    return colourings, ("rounds", tuple(colourings), found)
 
 
 def _tried(one, other, pairs, colours):
