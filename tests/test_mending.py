@@ -16,6 +16,7 @@ from wishedwires.ratios import Ratio
 from wishedwires.reducing import Reduction, reduced
 from wishedwires.ways import ways
 from tests.helper import (AMP, ARROW, GATE, NO_PARTS, ODD, TAP, TWO, WIRE, WRONG_NAMES, Case, branch, random_form, single)
+from tests.test_reducing import steps_by_the_words
 
 RES = JoiningKind("res", row="sum", side="inverse")
 
@@ -236,6 +237,26 @@ class LaidTest(Case):
             self.assertEqual(plain.form(), again)
             many += again == form
         self.assertGreater(many, 30)
+
+    def test_forms_on_which_no_step_can_be_done(self):
+        chance, many = Random(4), 0
+
+        def drawn(depth):
+            if depth == 0 or chance.random() < 0.3:
+                kind = chance.choice((RES, WIRE, ARROW, GATE))
+                controls = [chance.choice("xyz") for _ in kind.controls]
+                return Leaf(kind, chance.choice((1, 2)), *controls, turn=chance.choice((1, -1)))
+            one, other = drawn(depth - 1), drawn(depth - 1)
+            return one & other if chance.random() < 0.5 else one | other
+        for _ in range(600):
+            items = [branch(drawn(3), f"{chance.choice('wxyz')} {chance.choice('wxyz')}", f"t{at}") for at in range(2)]
+            items.append(single(TWO, f"{chance.choice('wxyz')} {chance.choice('wxyz')}", "t2"))
+            form = Form({name: chance.choice("wxyz") for name in "pq"}, items)
+            if not steps_by_the_words(form):
+                told = laid(form)
+                self.assertEqual([reduced(told), len(told)], [form, sum(len(item.worths) for item in form)])
+                many += 1
+        self.assertGreater(many, 80)
 
     def test_unlike_kinds_of_one_name(self):
         res, tap = PathKind("tap"), PinKind("tap", "m")

@@ -1,6 +1,7 @@
 """Points 19 and 20 and the interface section refuting; a second checker, by the words of point 20, stands here."""
 
 from collections import Counter
+from itertools import permutations
 from random import Random
 from time import process_time
 
@@ -9,7 +10,7 @@ from wishedwires.errors import LimitExceeded
 from wishedwires.expressions import Leaf
 from wishedwires.forms import Form
 from wishedwires.kinds import PinKind
-from wishedwires.refuting import lets_matching, lets_refutation, refutation
+from wishedwires.refuting import lets_matching, lets_refutation, refutation, refuted_without_names
 from tests.helper import (ARROW, GATE, ODD, TAP, TWO, WIRE, Case, all_matchings, branch, marks, random_form, renamed, ring,
                           single, told_print, touch, wires)
 
@@ -390,3 +391,25 @@ class LetsMatchingTest(Case):
                          [True, True, False])
         self.assertFalse(lets_matching(empty, Form({"p": "x"}, []), {}, {}))
         self.assertTrue(lets_matching(Form({"p": "y"}, []), Form({"p": "x"}, []), {"y": "x"}, {}))
+
+
+class WithoutNamesTest(Case):
+    def test_papers_for_all_orders_of_ports(self):
+        chance, many = Random(7), 0
+        for _ in range(200):
+            one, other = random_form(chance, "xyz"), random_form(chance, "xyz")
+            if sorted(one.ports) != sorted(other.ports):
+                continue
+            paper = refuted_without_names(one, other)
+            names = sorted(other.ports)
+            for order in permutations(names):
+                turned = Form({name: other.ports[place] for name, place in zip(names, order)}, other.entries)
+                if paper is not None:
+                    self.assertIs(lets_refutation(one, turned, paper), True)
+                    many += 1
+                elif not one.ports:
+                    self.assertEqual(refutation(one, other) is None or refutation(one, other)[0] == "try", True)
+        self.assertGreater(many, 60)
+        self.assertIsNone(refuted_without_names(Form({"p": "x", "q": "y"}, []), Form({"p": "u", "q": "v"}, [])))
+        told = refuted_without_names(Form({"p": "x", "q": "y"}, []), Form({"p": "u", "q": "u"}, []))
+        self.assertEqual([told[0], told[2][0]], ["rounds", "net"])

@@ -45,7 +45,8 @@ class Block:
         self.body = body
         ports = body.ports
         self.own_kind = BlockKind(name, *ports)
-        kinds = [(part, body[part].kind) for part in body.part_names()]
+        self.order = body.part_names()
+        kinds = [(part, body[part].kind) for part in self.order]
         self.inner = {part: kind.name for part, kind in kinds if isinstance(kind, BlockKind)}
         self.told_kinds = {kind.name: kind.text for part, kind in kinds if part not in self.inner}
         used = [blocks[other] for other in self.inner.values()]
@@ -146,7 +147,7 @@ class Book:
         block = self._block(name)
         number = 0
         for part in self._path(name, full):
-            ahead = [other for other in block.body.part_names() if other < part]
+            ahead = [other for other in block.order if other < part]
             number = number + sum([self._many(block, other) for other in ahead])
             if part in block.inner:
                 block = self._blocks[block.inner[part]]
@@ -216,7 +217,7 @@ class Book:
     def _entry_at(self, block, number):
         """The part or instance of a block to which a number leads, and the number within it."""
         left = number
-        for part in block.body.part_names():
+        for part in block.order:
             many = self._many(block, part)
             if left < many:
                 return part, left
@@ -229,19 +230,26 @@ class Book:
             raise UnknownName(full)
         block = self._blocks[name]
         path = []
-        words = full.split("/")
-        while words:
-            heads = ["/".join(words[:many]) for many in range(1, len(words) + 1)]
-            steps = [head for head in heads if head in block.inner]
-            if not steps:
-                break
-            path.append(steps[0])
-            words = words[steps[0].count("/") + 1:]
-            block = self._blocks[block.inner[steps[0]]]
-        rest = "/".join(words)
-        if rest not in block.body:
+        rest = full
+        step = _first_instance(block, rest)
+        while step:
+            path.append(step)
+            rest = rest.removeprefix(f"{step}/")
+            block = self._blocks[block.inner[step]]
+            step = _first_instance(block, rest)
+        if rest not in block.body or rest in block.inner:
             raise UnknownName(full)
         return [*path, rest]
+
+
+def _first_instance(block, full):
+    """The instance of a block with whose name and a slash a name begins; an empty text if there is none."""
+    at = full.find("/")
+    while at >= 0:
+        if full[:at] in block.inner:
+            return full[:at]
+        at = full.find("/", at + 1)
+    return ""
 
 
 def _copy_of(circuit):

@@ -96,11 +96,11 @@ class Reduction:
 
     def _put(self, names, tips, controls, made):
         """Puts a branch under the least of its names."""
-        strand = Strand(names, tips, controls, made)
-        self._strands[min(names, key=str)] = strand
+        least = names[0] if len(names) == 1 else min(names, key=str)
+        self._strands[least] = Strand(names, tips, controls, made)
         self._hold(controls, 1)
         for net in tips:
-            self._ends[net] = [*self._ends.get(net, []), min(names, key=str)]
+            self._ends[net] = [*self._ends.get(net, []), least]
 
     def _take(self, name):
         """Takes a branch away and returns it."""
