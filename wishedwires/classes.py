@@ -7,7 +7,7 @@ from wishedwires.errors import LimitExceeded
 from wishedwires.forms import Form
 from wishedwires.kinds import Kind
 from wishedwires.matching import MOST_ITEMS, MOST_NETS, Matching, carried, matching
-from wishedwires.refuting import compared, lets_refutation, refutation, refuted_without_names
+from wishedwires.refuting import compared, copied_refutation, lets_refutation, refutation, refuted_without_names
 
 
 class ClassKind(Kind):
@@ -31,6 +31,16 @@ class ClassKind(Kind):
         return isinstance(other, ClassKind) and self.text == other.text
 
 
+class Memory:
+    """What was found of class forms, by their records; it may be kept from one classing to the next one."""
+
+    def __init__(self):
+        self.turned_forms = {}
+        self.turns_told = {}
+        self.seats_told = {}
+        self.papers_told = {}
+
+
 class Shelf:
     """The classes of two books so far.
 
@@ -39,9 +49,10 @@ class Shelf:
     class form of its first member, the number of its items, and the exchanges.
     """
 
-    def __init__(self, one, other):
+    def __init__(self, one, other, memory):
         check_block_limits(one, other)
         self.books = (one, other)
+        self.memory = memory
         self.counts = (_item_counts(one), _item_counts(other))
         self.seated = ({}, {})
         self.rows = []
@@ -69,32 +80,40 @@ def class_form(book, name, ports, classes):
 
 def classing(one, other):
     """A classing of two books."""
-    shelf = Shelf(one, other)
+    return classing_with(one, other, Memory())
+
+
+def lets_classing(one, other, paper):
+    """Whether any value is a classing of two books."""
+    return lets_classing_with(one, other, paper, Memory())
+
+
+def classing_with(one, other, memory):
+    """A classing of two books, with a memory."""
+    shelf = Shelf(one, other, memory)
     ordered = [(depth, side, name) for side, book in enumerate(shelf.books) for depth, name in _names_by_depth(book)]
     rows, signs = [], []
     for _, side, name in sorted(set(ordered)):
         own = shelf.books[side].kind_of(name).pins
         form, count = shelf.formed(side, name, own), shelf.counts[side][name]
-        turned, sign = _all_turned(form), (count, _sign(form))
-        seat = _seat_among(shelf, turned, [index for index, told in enumerate(signs) if told == sign])
-        if seat is None:
-            turns = _turns(form, turned)
-            first = (side, name, own, _net_pairs(Matching.identity(form)))
-            rows.append([[first], turns, _reasons(shelf, form, turned, count)])
+        sign = (count, _sign(form))
+        index, turn, nets = _seat_among(shelf, form, [index for index, told in enumerate(signs) if told == sign])
+        if index is None:
+            index = len(rows)
+            turns = _turns(form, memory)
+            rows.append([[], turns, _reasons(shelf, form, count)])
             signs.append(sign)
             shelf.begin(form, count, _exchanges_in(turns))
-            shelf.seat(len(rows) - 1, side, name, own)
-        else:
-            index, turn, nets = seat
-            ports = tuple([own[place] for place in turn])
-            rows[index][0].append((side, name, ports, nets))
-            shelf.seat(index, side, name, ports)
+            turn, nets = tuple(range(len(own))), _net_pairs(Matching.identity(form))
+        ports = tuple([own[place] for place in turn])
+        rows[index][0].append((side, name, ports, nets))
+        shelf.seat(index, side, name, ports)
     return tuple([(tuple(members), turns, apart) for members, turns, apart in rows])
 
 
-def lets_classing(one, other, paper):
-    """Whether any value is a classing of two books."""
-    shelf = Shelf(one, other)
+def lets_classing_with(one, other, paper, memory):
+    """Whether any value is a classing of two books, with a memory."""
+    shelf = Shelf(one, other, memory)
     if not isinstance(paper, tuple):
         return False
     for index, row in enumerate(paper):
@@ -105,7 +124,7 @@ def lets_classing(one, other, paper):
             return False
         side, name, ports, _ = members[0]
         form, count = shelf.formed(side, name, ports), shelf.counts[side][name]
-        turned = _all_turned(form)
+        turned = _all_turned(form, memory)
         if not _are_turns(form, turned, turns) or not _are_reasons(shelf, turned, count, apart):
             return False
         shelf.begin(form, count, _exchanges_in(turns))
@@ -179,14 +198,16 @@ def _permutations(many):
     return found
 
 
-def _all_turned(form):
+def _all_turned(form, memory):
     """For each permutation of ports, ascending, a pair: the class form with the port of index turn[k] as port k."""
-    ports = form.ports
-    told = []
-    for turn in _permutations(len(ports)):
-        seats = {_port_name(place): ports[_port_name(index)] for place, index in enumerate(turn)}
-        told.append((turn, Form(seats, form.entries)))
-    return told
+    if form.record not in memory.turned_forms:
+        ports = form.ports
+        told = []
+        for turn in _permutations(len(ports)):
+            seats = {_port_name(place): ports[_port_name(index)] for place, index in enumerate(turn)}
+            told.append((turn, Form(seats, form.entries)))
+        memory.turned_forms[form.record] = told
+    return memory.turned_forms[form.record]
 
 
 def _sign(form):
@@ -207,31 +228,46 @@ def _exchanges_in(turns):
     return tuple([turn for turn, nets, _ in turns if nets is not None])
 
 
-def _seat_among(shelf, turned, indices):
-    """The first of some classes to which a class form belongs: its index, a turn that shows it, and nets; or None."""
+def _seat_among(shelf, form, indices):
+    """The first of some classes to which a class form belongs: its index, a turn that shows it, and nets; else None."""
+    known = shelf.memory.seats_told
     for index in indices:
-        for turn, form in turned:
-            found = matching(shelf.rows[index][0], form)
-            if found is not None:
-                return index, turn, _net_pairs(found)
-    return None
+        first = shelf.rows[index][0]
+        key = (first.record, form.record)
+        if key not in known:
+            known[key] = _seat(first, _all_turned(form, shelf.memory))
+        turn, nets = known[key]
+        if turn is not None:
+            return index, turn, nets
+    return None, None, None
 
 
-def _turns(form, turned):
+def _seat(first, turned):
+    """The first turn of a class form with which it matches another one, and the nets; else None."""
+    for turn, form in turned:
+        found = matching(first, form)
+        if found is not None:
+            return turn, _net_pairs(found)
+    return None, None
+
+
+def _turns(form, memory):
     """Which permutations of the ports of a class form are exchanges, and what shows it."""
-    told = []
-    for turn, other in turned:
-        found, paper = compared(form, other)
-        told.append((turn, None if found is None else _net_pairs(found), paper))
-    return tuple(told)
+    known = memory.turns_told
+    if form.record not in known:
+        told = [(turn, compared(form, other)) for turn, other in _all_turned(form, memory)]
+        known[form.record] = [(turn, None if found is None else _net_pairs(found), paper)
+                              for turn, (found, paper) in told]
+    # Each paper that is told has dicts of its own.
+    return tuple([(turn, nets, copied_refutation(paper)) for turn, nets, paper in known[form.record]])
 
 
-def _reasons(shelf, form, turned, count):
+def _reasons(shelf, form, count):
     """Why a class form is of none of the classes so far."""
     reasons = []
     for index, (first, before, _) in enumerate(shelf.rows):
         reason = _plain_reason(first, before, form, count)
-        reasons.append((index, ("forms", _refutations(first, turned)) if reason is None else reason))
+        reasons.append((index, ("forms", _refutations(first, form, shelf.memory)) if reason is None else reason))
     return tuple(reasons)
 
 
@@ -242,14 +278,15 @@ def _plain_reason(first, before, form, count):
     return ("items", count, before) if before != count else None
 
 
-def _refutations(first, turned):
-    """A refutation of a class form and of each of those that another one is turned to."""
-    shared = refuted_without_names(first, turned[0][1])
-    if shared is None:
-        return tuple([refutation(first, form) for _, form in turned])
-    word, colourings, told = shared
-    # Each paper has dicts of its own.
-    return tuple([(word, tuple([(dict(mine), dict(theirs)) for mine, theirs in colourings]), told) for _ in turned])
+def _refutations(first, form, memory):
+    """For each permutation of the ports of a class form, a refutation of another one and of it turned so."""
+    known = memory.papers_told
+    key = (first.record, form.record)
+    if key not in known:
+        turned = _all_turned(form, memory)
+        shared = refuted_without_names(first, form)
+        known[key] = [refutation(first, other) if shared is None else shared for _, other in turned]
+    return tuple([copied_refutation(paper) for paper in known[key]])
 
 
 def _are_members(shelf, members):

@@ -1,6 +1,6 @@
 """The fewest openings with which two blocks match block by block."""
 
-from wishedwires.classes import classing, lets_classing, named_turn, seats_in
+from wishedwires.classes import Memory, classing_with, lets_classing_with, named_turn, seats_in
 from wishedwires.errors import LimitExceeded, UnknownName
 from wishedwires.flat import opened
 
@@ -64,9 +64,10 @@ def lets_openings(one, name, other, other_name, paper):
     told = [names for names, _ in paper]
     if not _are_sets_in_order(pair.sets(), told):
         return False
+    memory = Memory()
     for index, (names, classes) in enumerate(paper):
         one_opened, other_opened = pair.opened_at(names)
-        if not lets_classing(one_opened, other_opened, classes):
+        if not lets_classing_with(one_opened, other_opened, classes, memory):
             return False
         if pair.are_alike(classes):
             return index + 1 == len(paper)
@@ -76,9 +77,10 @@ def lets_openings(one, name, other, other_name, paper):
 def _rows(pair):
     """The rows of an openings paper."""
     rows = []
+    memory = Memory()
     for names in pair.sets():
         one, other = pair.opened_at(names)
-        paper = classing(one, other)
+        paper = classing_with(one, other, memory)
         rows.append((names, paper))
         if pair.are_alike(paper):
             return tuple(rows)

@@ -36,6 +36,15 @@ def refuted_without_names(one, other):
     return _refuted_by_rounds(one, other, numbered(counts))[1]
 
 
+def copied_refutation(paper):
+    """An equal refutation with dicts of its own; None for None."""
+    if paper is None or paper[0] == "ports":
+        return paper
+    if paper[0] == "try":
+        return ("try", paper[1], tuple([(there, copied_refutation(told)) for there, told in paper[2]]))
+    return ("rounds", tuple([(dict(mine), dict(theirs)) for mine, theirs in paper[1]]), paper[2])
+
+
 def lets_refutation(one, other, paper):
     """Whether any value is a refutation of two forms."""
     check_limits(one, other)
