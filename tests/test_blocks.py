@@ -12,8 +12,8 @@ from wishedwires.parts import Part
 from wishedwires.ratios import Ratio
 from wishedwires.reading import format_circuit
 from wishedwires.reducing import reduced
-from tests.blockcase import RES, block, book_of, chain, names_by_hand, random_book, small
-from tests.helper import AMP, NO_PARTS, ODD, TAP, TWO, WORDS, WRONG_NAMES, WRONG_WORDS, Case
+from tests.helper import (AMP, NO_PARTS, ODD, RES, TAP, TWO, WORDS, WRONG_NAMES, WRONG_WORDS, Case, block, book_of,
+                          chain, names_by_hand, random_book, small)
 
 ONE = ("p:x", "t tap 1 x")
 

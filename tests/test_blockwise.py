@@ -9,8 +9,8 @@ from wishedwires.classes import classing, lets_classing
 from wishedwires.errors import LimitExceeded, UnknownName
 from wishedwires.forms import Form
 from wishedwires.matching import matchings
-from tests.blockcase import alike_under, block, book_of, chain, disguised, names_by_hand, port_maps, random_book, small
-from tests.helper import ODD, Case, of_names
+from tests.helper import (ODD, Case, alike_under, block, book_of, chain, disguised, names_by_hand, of_names, port_maps,
+                          random_book, small)
 
 
 def item_name(book, name, full):

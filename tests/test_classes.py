@@ -13,8 +13,7 @@ from wishedwires.kinds import Kind, PinKind
 from wishedwires.matching import matchings
 from wishedwires.parts import Part
 from wishedwires.refuting import lets_matching, lets_refutation, refutation
-from tests.blockcase import block, book_of, chain, disguised, port_maps, random_book, small
-from tests.helper import ODD, TAP, TWO, Case
+from tests.helper import ODD, TAP, TWO, Case, block, book_of, chain, disguised, port_maps, random_book, small
 
 
 def integer(value):

@@ -9,8 +9,8 @@ from wishedwires.flat import flat, flat_alike, opened
 from wishedwires.matching import alike
 from wishedwires.parts import Part
 from wishedwires.reducing import reduced
-from tests.blockcase import alike_under, block, book_of, chain, disguised, names_by_hand, random_book, small
-from tests.helper import ODD, TAP, TWO, Case
+from tests.helper import (ODD, TAP, TWO, Case, alike_under, block, book_of, chain, disguised, names_by_hand,
+                          random_book, small)
 
 
 def opened_once(circuit, name, inner):

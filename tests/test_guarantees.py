@@ -19,7 +19,7 @@ from wishedwires.flat import flat, flat_alike
 from wishedwires.forms import Form
 from wishedwires.junctions import touching_set
 from wishedwires.least import floor_paper, least_differences, lets_floor, weight
-from wishedwires.matching import Matching, alike, matching, matchings
+from wishedwires.matching import Matching, alike, matchings
 from wishedwires.mending import Board, mends
 from wishedwires.opening import least_openings, lets_openings, openings
 from wishedwires.parts import Part
@@ -30,8 +30,8 @@ from wishedwires.reducing import Reduction, lets_trace, reduced
 from wishedwires.refuting import lets_matching, lets_refutation, refutation
 from wishedwires.rules import ValueRule
 from wishedwires.within import apart_paper, lets_apart, most_apart, places, spots
-from tests.blockcase import RES, book_of, disguised, names_by_hand, random_book, small
-from tests.helper import AMP, ARROW, GATE, TAP, TWO, WIRE, Case
+from tests.helper import (AMP, ARROW, GATE, RES, TAP, TWO, WIRE, Case, book_of, disguised, names_by_hand, random_book,
+                          small)
 
 KINDS = (RES, RES, RES, WIRE, GATE, ARROW, TAP, TWO, AMP)
 

@@ -9,8 +9,7 @@ from wishedwires.classes import classing, lets_classing
 from wishedwires.errors import LimitExceeded, UnknownName
 from wishedwires.flat import flat, flat_alike, opened
 from wishedwires.opening import least_openings, lets_openings, openings
-from tests.blockcase import alike_under, block, book_of, disguised, random_book, small
-from tests.helper import ODD, Case
+from tests.helper import ODD, Case, alike_under, block, book_of, disguised, random_book, small
 
 
 def sets_of(one, name, other, other_name):

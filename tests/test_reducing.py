@@ -7,7 +7,7 @@ from wishedwires.entries import Item
 from wishedwires.errors import InvalidCircuit, InvalidStep
 from wishedwires.expressions import Leaf
 from wishedwires.forms import Form
-from wishedwires.kinds import DirectedJoiningKind, JoiningKind, PathKind
+from wishedwires.kinds import DirectedJoiningKind, JoiningKind
 from wishedwires.parts import Part
 from wishedwires.ratios import Ratio
 from wishedwires.reading import parse

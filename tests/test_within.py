@@ -9,8 +9,7 @@ from wishedwires.kinds import PinKind
 from wishedwires.matching import Matching
 from wishedwires.parts import Part
 from wishedwires.within import apart_paper, lets_apart, most_apart, places, spots
-from tests.blockcase import block
-from tests.helper import AMP, ARROW, NO_PARTS, ODD, TAP, TWO, WIRE, Case
+from tests.helper import AMP, ARROW, NO_PARTS, ODD, TAP, TWO, WIRE, Case, block
 
 SIX = PinKind("six", *"abcdef", swaps=(tuple("abcdef"),))
 
