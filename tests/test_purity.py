@@ -1,7 +1,9 @@
 """LANGUAGE.md L5 Operators, L5 Properties and L28: what operators, properties and the like run changes nothing.
 
 From each operator (in-place ones and __setitem__ excepted), each property and each __eq__, __str__, __repr__ and
-__len__, all functions of the package are followed that it calls; a method is every method of that name.
+__len__, all functions of the package are followed that it calls; a method is every method of that name. So a call of a
+name that objects of the package have as an attribute may be a call of what an object holds, even if it is `index` of a
+tuple: none stands in what these run, nor in what in-place operators, __setitem__ and setters run (L18).
 """
 
 import ast
@@ -10,7 +12,8 @@ from pathlib import Path
 
 FOLDER = Path(__file__).resolve().parent.parent / "wishedwires"
 
-FREE = {"__init__", "__call__", "__iter__", "__setitem__", "__iadd__"}
+CHANGERS = {"__setitem__", "__iadd__"}
+FREE = {"__init__", "__call__", "__iter__"} | CHANGERS
 STILL = {"__eq__", "__str__", "__repr__", "__len__"}
 CHANGING = set("append clear extend insert pop remove reverse setdefault update sort add discard".split())
 BUILTINS = set("""len range enumerate zip min max sum abs sorted reversed int str bool bytes list tuple dict set
@@ -34,9 +37,12 @@ class Package:
 
     def __init__(self, texts):
         self.functions, self.methods, self.inits, self.bases = {}, {}, {}, {}
-        self.roots, self.setters, self.properties = [], set(), set()
+        self.roots, self.changers, self.setters, self.properties, self.attributes = [], [], set(), set(), set()
         for file, text in texts.items():
-            for node in ast.parse(text).body:
+            tree = ast.parse(text)
+            self.attributes |= {node.attr for node in ast.walk(tree)
+                                if isinstance(node, ast.Attribute) and isinstance(node.ctx, ast.Store)}
+            for node in tree.body:
                 if isinstance(node, ast.FunctionDef):
                     self.functions.setdefault(node.name, []).append((f"{file} {node.name}", node))
                 elif isinstance(node, ast.ClassDef):
@@ -46,11 +52,14 @@ class Package:
 
     def take_class(self, file, told):
         self.bases[told.name] = [base.id for base in told.bases]
+        self.attributes |= {target.id for node in told.body if isinstance(node, ast.Assign) for target in node.targets}
         for node in told.body:
             if not isinstance(node, ast.FunctionDef):
                 continue
             place = (f"{file} {told.name}.{node.name}", node)
             special = node.name.startswith("__")
+            if is_setter(node) or node.name in CHANGERS:
+                self.changers.append(place)
             if is_setter(node):
                 self.setters.add(node.name)
                 continue
@@ -69,17 +78,27 @@ class Package:
         return found + [place for base in self.bases.get(name, []) for place in self.made_by(base)]
 
     def faults(self):
-        found = []
-        for root in self.roots:
-            seen, waiting = {}, [root]
-            while waiting:
-                place, node = waiting.pop()
-                if place in seen:
-                    continue
+        found = [f"{root[0]} runs {place}: {why}" for root in self.roots for place, node in self.run_by(root)
+                 for why in self.wrong_in(node)]
+        return found + [f"{root[0]} runs {place}: {why}" for root in self.roots + self.changers
+                        for place, node in self.run_by(root) for why in self.held_in(node)]
+
+    def run_by(self, root):
+        """A function or method, and all that it runs, each once."""
+        seen, waiting = {}, [root]
+        while waiting:
+            place, node = waiting.pop()
+            if place not in seen:
                 seen[place] = True
-                found.extend(f"{root[0]} runs {place}: {why}" for why in self.wrong_in(node))
+                yield place, node
                 waiting.extend(self.called_in(node))
-        return found
+
+    def held_in(self, node):
+        """The calls of names that objects of the package have as attributes."""
+        for call in [inner for inner in ast.walk(node) if isinstance(inner, ast.Call)]:
+            name = getattr(call.func, "attr", getattr(call.func, "id", None))
+            if name in self.attributes | self.properties:
+                yield f"row {call.lineno}: calls {name}, the name of an attribute"
 
     def called_in(self, node):
         for call in [inner for inner in ast.walk(node) if isinstance(inner, ast.Call)]:
@@ -183,3 +202,29 @@ class PurityTest(unittest.TestCase):
             self.assertNotEqual(Package({"x.py": head + text}).faults(), [], text)
         fine = "    def __add__(self, other):\n        b = []\n        b.append(A())\n        b[0] = len(b)\n        return b\n"
         self.assertEqual(Package({"x.py": head + fine}).faults(), [])
+
+    def test_what_it_finds_of_names_that_objects_have(self):
+        kept = "class B:\n    def __init__(self):\n        self.index = 1\n"
+        valued = "class B:\n    find = 1\n"
+        property_too = "class B:\n    @property\n    def index(self):\n        return 1\n"
+        told = "def told(x):\n    return (1, 2).index(x)\n"
+        for text in ("    def __getitem__(self, at):\n        return self.at(at)\n"
+                     "    def at(self, at):\n        return (1, 2).index(at)\n",
+                     "    def __getitem__(self, at):\n        return told(at)\n" + told,
+                     "    def __getitem__(self, at):\n        return index(at)\ndef index(x):\n    return x\n",
+                     "    def __len__(self):\n        return len([1].index(1))\n",
+                     "    def __setitem__(self, at, worth):\n        self.x[told(at)] = worth\n" + told,
+                     "    def __iadd__(self, other):\n        self.x = told(other)\n        return self\n" + told,
+                     "    @property\n    def x(self):\n        return told(1)\n" + told,
+                     "    @property\n    def x(self):\n        return 1\n"
+                     "    @x.setter\n    def x(self, value):\n        self.y = told(value)\n" + told):
+            head = "class A:\n"
+            self.assertEqual(Package({"x.py": head + text}).faults(), [], text)
+            for other in (kept, property_too):
+                faults = Package({"x.py": head + text, "y.py": other}).faults()
+                self.assertTrue(any(fault.endswith("calls index, the name of an attribute") for fault in faults), text)
+        finds = "class A:\n    def __contains__(self, x):\n        return x.find(1) == 0\n"
+        self.assertEqual(Package({"x.py": finds}).faults(), [])
+        self.assertNotEqual(Package({"x.py": finds, "y.py": valued}).faults(), [])
+        plain = "class A:\n    def told(self, x):\n        return (1, 2).index(x)\n"
+        self.assertEqual(Package({"x.py": plain, "y.py": kept}).faults(), [])

@@ -97,11 +97,11 @@ class Circuit:
 
     def __and__(self, other):
         _check_part_names(self, other)
-        return _taken(self, [name for name in self.part_names() if name in other])
+        return _circuit_of(self, [name for name in self.part_names() if name in other])
 
     def __sub__(self, other):
         _check_part_names(self, other)
-        return _taken(self, [name for name in self.part_names() if name not in other])
+        return _circuit_of(self, [name for name in self.part_names() if name not in other])
 
 
 def _checked_ports(ports):
@@ -196,7 +196,7 @@ def _check_part_names(circuit, names):
             raise UnknownName(name)
 
 
-def _taken(circuit, names):
+def _circuit_of(circuit, names):
     """The circuit of some of the parts; nets that the others have, too, become ports."""
     mine = _nets_of(circuit, names)
     rest = _nets_of(circuit, [name for name in circuit.part_names() if name not in names])

@@ -79,9 +79,11 @@ class Part:
         return self.kind == other.kind and self._value == other._value and self._nets == other._nets
 
     def _index_of(self, pin):
-        if pin not in self.kind.pins:
-            raise UnknownName(pin)
-        return self.kind.pins.index(pin)
+        # No tuple is asked for its index here: operators run this, and a kind of class has an attribute of that name.
+        for place, name in enumerate(self.kind.pins):
+            if name == pin:
+                return place
+        raise UnknownName(pin)
 
 
 def _fitting(kind, nets):
