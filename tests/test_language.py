@@ -102,25 +102,42 @@ def called(node):
 
 
 def plainly_sorted(node):
-    """Whether a call of sorted, min or max has an argument or a key that is plainly numbers or strings."""
+    """Whether a call of sorted, min or max takes what is plainly numbers or strings, or has a key that gives such."""
     for keyword in node.keywords:
         if keyword.arg == "key":
             return isinstance(keyword.value, ast.Name) and keyword.value.id in ("str", "len", "int")
-    return any(plain(value) for value in node.args)
+    if len(node.args) > 1:
+        return any(plain(value) for value in node.args)
+    return plain_row(node.args[0])
 
 
-def plain(node):
-    if isinstance(node, (ast.Constant, ast.JoinedStr)):
-        return True
-    if isinstance(node, (ast.List, ast.Tuple)):
+def plain_row(node):
+    """Whether a row of values is one of those that L5 Operators lists: so set(..), but no sets joined by signs."""
+    if isinstance(node, ast.List):
         return all(plain(value) for value in node.elts)
     if isinstance(node, ast.ListComp):
         return plain(node.elt)
-    if isinstance(node, (ast.SetComp, ast.Set)):
+    if isinstance(node, ast.Call) and isinstance(node.func, ast.Attribute):
+        return node.func.attr == "split"
+    return called(node) in ("range", "set")
+
+
+def plain(node):
+    """Whether a value is plainly a number or a string."""
+    if isinstance(node, (ast.Constant, ast.JoinedStr)):
         return True
     if isinstance(node, ast.BinOp):
-        return plain(node.left) and plain(node.right)
-    return called(node) in ("len", "int", "ord", "str", "repr", "range", "split", "set", "abs")
+        return isinstance(node.op, ast.Add) and plain_number(node.left) and plain_number(node.right)
+    return plain_number(node) or (isinstance(getattr(node, "func", None), ast.Name) and called(node) in ("str", "repr"))
+
+
+def plain_number(node):
+    """Whether a value is plainly a number."""
+    if isinstance(node, ast.Constant):
+        return isinstance(node.value, int)
+    if isinstance(node, ast.BinOp):
+        return isinstance(node.op, ast.Add) and plain_number(node.left) and plain_number(node.right)
+    return isinstance(node, ast.Call) and isinstance(node.func, ast.Name) and node.func.id in ("len", "int", "ord")
 
 
 class LanguageTest(unittest.TestCase):
@@ -253,6 +270,29 @@ class LanguageTest(unittest.TestCase):
                 if name in ("sorted", "min", "max"):
                     self.assertTrue(plainly_sorted(node), where)
             self.assertNotEqual(name, "sort", where)
+
+    def test_which_sorting_is_plain(self):
+        for told in ("sorted(set(xs))", "sorted(set([(1, x) for x in xs]))", "sorted(set(list(xs) + ys))", "sorted(xs, key=str)",
+                     "sorted([len(x) for x in xs])", "sorted([f'{x}', 'a', str(x)])", "sorted(text.split())",
+                     "min(xs, key=len)", "min(range(3))", "max(x, 0)", "max(len(x), y.depth)", "max(x, len(y) + 1)",
+                     "max([len(x) + int(y) for x in xs], default=0)"):
+            self.assertTrue(plainly_sorted(ast.parse(told).body[0].value), told)
+        for told in ("sorted(set(xs) ^ set(ys))", "sorted(set(list(xs)) - set(list(ys)))", "sorted(set(xs) & set(ys))",
+                     "sorted(set(xs) | {'a'})", "sorted({x for x in xs})", "sorted({'a', x})", "sorted(xs)", "min(xs)",
+                     "sorted([x for x in xs])", "sorted([x, 1])", "sorted(list(xs))", "sorted(xs, key=told)", "max(x, y)",
+                     "sorted(x.set())", "max(x, y.len())", "max(x, len(y) - z)", "max(x, y + 1)", "min((1, x))",
+                     "sorted([set(x) for x in xs])", "sorted(box.rows)"):
+            self.assertFalse(plainly_sorted(ast.parse(told).body[0].value), told)
+
+    def test_classes_with_an_order(self):
+        found = []
+        for where, node, _ in self.each_node():
+            if isinstance(node, ast.ClassDef):
+                names = {one.name for one in node.body if isinstance(one, ast.FunctionDef)}
+                if names & {"__lt__", "__le__", "__gt__", "__ge__"}:
+                    found.append(node.name)
+                    self.assertIn("__eq__", names, where)
+        self.assertLessEqual({"Ratio", "Expression", "Item"}, set(found))
 
     def test_iterated_at_once(self):
         _, _, generators = own_names()

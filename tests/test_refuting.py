@@ -139,6 +139,18 @@ class RefutationTest(Case):
         self.assertEqual([self.check(one, other), self.check(other, one)], [("ports", "r")] * 2)
         self.assertEqual(self.check(Form({"p": "a"}, []), Form({"q": "a"}, []))[0], "ports")
 
+    def test_ports_on_either_side(self):
+        one = Form({"z": "a", "p": "b", "d": "b"}, wires("ab"))
+        other = Form({"p": "b", "y": "a", "c": "a", "z2": "b"}, wires("ab"))
+        for mine, theirs in ((one, other), (other, one)):
+            word, name = self.check(mine, theirs)
+            self.assertEqual(word, "ports")
+            self.assertIn(name, ("c", "d", "y", "z", "z2"))
+            for told in ("c", "d", "y", "z", "z2"):
+                self.assertIs(lets_refutation(mine, theirs, ("ports", told)), True)
+            for told in ("p", "a", "b", "x", ""):
+                self.assertIs(lets_refutation(mine, theirs, ("ports", told)), False)
+
     def test_unlike_numbers_of_nets(self):
         one, other = Form({}, [single(TAP, "x", "t")]), Form({}, [single(TWO, "x y", "t")])
         self.assertEqual(self.check(one, other), ("rounds", (({"x": 0}, {"x": 0, "y": 0}),), ("net", 0)))

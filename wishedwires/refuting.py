@@ -14,7 +14,7 @@ def refutation(one, other):
 def compared(one, other):
     """The first matching of two forms and None; or None and a refutation."""
     check_limits(one, other)
-    lacking = sorted(set(list(one.ports)) ^ set(list(other.ports)))
+    lacking = _lacking_names(one, other)
     if lacking:
         return None, ("ports", lacking[0])
     colourings, paper = _refuted_by_rounds(one, other, first_colours(one, other))
@@ -59,9 +59,11 @@ def lets_matching(one, other, nets, ids=None):
     return is_matching(one, other, nets, ids)
 
 
-def _lacks_one(one, other, name):
-    """Whether only one of the forms has a port of this name."""
-    return (name in one.ports) != (name in other.ports)
+def _lacking_names(one, other):
+    """The names of the ports that only one of the forms has, ascending."""
+    mine, theirs = one.ports, other.ports
+    lacking = [name for name in mine if name not in theirs] + [name for name in theirs if name not in mine]
+    return sorted(lacking, key=str)
 
 
 def _refuted(one, other, pairs):
@@ -132,7 +134,7 @@ def _holds(one, other, pairs, paper):
     if not isinstance(paper, tuple) or len(paper) < 2:
         return False
     if paper[0] == "ports" and len(paper) == 2:
-        return isinstance(paper[1], str) and _lacks_one(one, other, paper[1])
+        return isinstance(paper[1], str) and paper[1] in _lacking_names(one, other)
     if paper[0] == "rounds" and len(paper) == 3:
         return _are_rounds(one, other, pairs, paper[1]) and _is_difference(one, other, paper[1][-1], paper[2])
     if paper[0] == "try" and len(paper) == 3:
